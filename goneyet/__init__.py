@@ -1,0 +1,1 @@
+"""Goneyet: how long a struck row is still told."""

@@ -1,0 +1,82 @@
+"""The examples of the document, as they stand there."""
+
+import doctest
+import unittest
+
+STAGE_1 = r'''
+>>> from goneyet.reader import read_rulebook
+>>> from goneyet.rulebooks import dead_grounds, with_numbers, without_kind
+>>> from goneyet.texts import show_rulebook
+>>> text = "rows a # one\nkind p keep 2 bar 0\nfrom row a tell 1 most 9\nkind q keep 3 bar 1\nfrom kind p after 2 tell 0 most 9"
+>>> rulebook = read_rulebook(text)
+>>> rulebook
+(('a',), (('p', 2, 0, ((('row', 'a', 1, 9),),)), ('q', 3, 1, ((('kind', 'p', 2, 0, 9),),))))
+>>> [dead_grounds(rulebook), with_numbers(rulebook, ((("q", 0, 0), "after"), ("q", "bar")), (1, 0))[1][1]]
+[[('q', 0)], ('q', 3, 0, ((('kind', 'p', 1, 0, 9),),))]
+>>> show_rulebook(without_kind(rulebook, "p"))
+'rows a\nkind q keep 3 bar 1'
+'''
+
+STAGE_2 = r'''
+>>> from goneyet.net import Net
+>>> from goneyet.scripts import old_days, show_script
+>>> rulebook = (("a",), (("p", 3, 1, ((("kind", "p", 1, 1, 9),), (("row", "a", 0, 9),))),))
+>>> net = Net(rulebook, ("a",), False, -2)
+>>> [net.make(("p", 0), 1, (None,)), net.dawn(), net.make(("p", 1), 0, (("p", 0),)), net.dawn(), net.news_now()]
+[None, None, None, None, [(0, ('p', 0), ('a',))]]
+>>> [net.tell_due(), net.answers_now(), net.news_now()]
+[[('tell', ('p', 0), ('a',), 0)], {('p', 1): (-1, 0, ('a',), ())}, [(1, ('p', 1), ('p', 0))]]
+>>> old_days(rulebook, ("a",), False, (-2, tuple(net.deeds_done())), "p")
+[-2, -1, 0]
+>>> show_script((-1, (("make", ("p", 0), 1, (None,)), ("dawn",), ("tell", ("p", 0), ("a",), 0))))
+'begin -1\nmake p 0 ground 1 -\ndawn\ntell p 0 from a last 0'
+'''
+
+STAGE_3 = r'''
+>>> from goneyet.origins import clean_tree, levels_of, old_tree
+>>> from goneyet.rowlots import kinds_reached, least_chokes, least_supports
+>>> from goneyet.sorts import able_kinds, clean_kinds, old_needs
+>>> p = ("p", 3, 0, ((("row", "a", 1, 9),), (("row", "b", 0, 9),)))
+>>> q = ("q", 4, 2, ((("kind", "p", 1, 1, 9), ("row", "b", 0, 9)),))
+>>> rulebook = (("a", "b"), (p, q))
+>>> [clean_kinds(rulebook, ("a",)), clean_kinds(rulebook, ("b",)), able_kinds(rulebook, ("a",))]
+[('p', 'q'), ('p',), ('p', 'q')]
+>>> [old_needs(rulebook, ("a",), "q", 0), old_needs(rulebook, ("b",), "q", 0)]
+[('one', (0,)), ('all', (1,))]
+>>> [least_supports(rulebook, "p"), least_supports(rulebook, "q"), least_chokes(rulebook, "p"), least_chokes(rulebook, "q")]
+[[('a',), ('b',)], [('b',)], [('a', 'b')], [('b',)]]
+>>> [clean_tree(rulebook, ("a",), "q"), old_tree(rulebook, ("a",), "q"), levels_of(old_tree(rulebook, ("a",), "q"))]
+[('q', 0, (('p', 1, (None,)), None)), ('q', 0, (('p', 0, (None,)), None)), 2]
+'''
+
+# Of stage 4 those of goneyet.leasttable.
+STAGE_4 = r'''
+>>> from goneyet.leasttable import last_day, last_making, table_of, told_by
+>>> copies = (("kind", "e", 1, 0, 9),)
+>>> book = (("a",), (("e", 5, 0, (copies, (("row", "a", 2, 9),))),))
+>>> [last_making(book, ("a",), "e", told) for told in (0, 2, 3, None)]
+[1, 1, None, None]
+>>> [told_by(book, ("a",), "e", 1), told_by(book, ("a",), "e", 2), last_day(book, ("a",), "e")]
+[2, 'none', 1]
+>>> table_of(book, ("a",), 3)
+((1, 1, 1, None, None),)
+'''
+
+
+class ExamplesTest(unittest.TestCase):
+    def run_examples(self, text, many):
+        examples = doctest.DocTestParser().get_doctest(text, {}, "examples", "DOC.md", 0)
+        told = doctest.DocTestRunner().run(examples)
+        self.assertEqual((told.failed, told.attempted), (0, many))
+
+    def test_stage_1(self):
+        self.run_examples(STAGE_1, 8)
+
+    def test_stage_2(self):
+        self.run_examples(STAGE_2, 8)
+
+    def test_stage_3(self):
+        self.run_examples(STAGE_3, 10)
+
+    def test_stage_4(self):
+        self.run_examples(STAGE_4, 6)

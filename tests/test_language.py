@@ -1,0 +1,226 @@
+"""The package keeps to its subset of the language, as far as a look at the code tells."""
+
+import ast
+import builtins
+import os
+import re
+import unittest
+
+FOLDER = os.path.join(os.path.dirname(os.path.dirname(os.path.abspath(__file__))), "goneyet")
+FILES = sorted(os.listdir(FOLDER))
+
+INTERFACE = {
+    "errors": ["GoneError", "BadDeed", "Wrong", "Untold", "NoText"],
+    "forms": ["is_integer", "is_name", "is_need", "is_ground", "is_kind", "is_rulebook", "is_struck", "is_keeper", "is_told"],
+    "rulebooks": [
+        "kind_of", "need_at", "numbers_at", "kind_names", "places_of", "dead_grounds", "with_numbers", "with_kind", "without_kind",
+        "joined_rulebooks", "led_rulebook",
+    ],
+    "texts": ["show_rulebook"],
+    "reader": ["read_rulebook"],
+    "net": ["Net"],
+    "scripts": ["is_script", "played", "first_bad", "old_days", "old_moments", "show_script", "read_script"],
+    "sorts": ["bearing_kinds", "clean_kinds", "able_kinds", "old_needs", "live_grounds", "forced_needs"],
+    "rowlots": ["kinds_reached", "least_supports", "least_chokes"],
+    "origins": ["clean_tree", "old_tree", "is_clean_tree", "is_old_tree", "levels_of"],
+    "leasttable": ["last_making", "last_day", "told_by", "table_of"],
+}
+NET_METHODS = [
+    "dawn", "tell", "make", "clean", "tell_due", "lists_now", "news_now", "deeds_done", "day_now", "is_morning", "answers_now", "barred_now",
+    "undo", "copied", "__eq__", "__init__",
+]
+
+BUILTINS = set("""len range enumerate zip min max sum abs sorted reversed int str bool list tuple dict set isinstance ord repr any all
+divmod ValueError KeyError IndexError LookupError""".split())
+METHODS = set("""append clear copy count endswith extend find get index insert isalnum isalpha isdigit islower isspace isupper items join keys
+ljust lower lstrip partition pop remove replace reverse rfind rjust rpartition rsplit rstrip setdefault split splitlines startswith strip update
+upper values zfill bit_length""".split())
+# Some tests let Python put `_` among its builtins.
+NAMES = [name for name in dir(builtins) if name != "_"]
+CHANGING = set("append clear extend insert pop remove reverse setdefault update".split())
+BARRED_WORDS = set("""type typing typing_extensions enum Enum IntEnum StrEnum Flag IntFlag Generic Protocol ABC ABCMeta namedtuple NamedTuple
+TypedDict TYPE_CHECKING abstractmethod register mro elements open input law version_info with_traceback add_note""".split())
+
+
+def trees():
+    for name in FILES:
+        with open(os.path.join(FOLDER, name), encoding="utf-8") as file:
+            text = file.read()
+        yield name[:-3], text, ast.parse(text)
+
+
+def functions(tree):
+    return [node for node in ast.walk(tree) if isinstance(node, ast.FunctionDef)]
+
+
+def bound_names(function):
+    """Parameters and variables of a function."""
+    names = {arg.arg for arg in function.args.args}
+    return names | {node.id for node in ast.walk(function) if isinstance(node, ast.Name) and isinstance(node.ctx, (ast.Store, ast.Del))}
+
+
+class LanguageTest(unittest.TestCase):
+    def each(self, kind):
+        for name, _, tree in trees():
+            for node in ast.walk(tree):
+                if isinstance(node, kind):
+                    yield f"{name}:{getattr(node, 'lineno', 0)}", node
+
+    def test_files(self):
+        for name in FILES:
+            self.assertRegex(name, r"^[a-z_]+\.py$")
+        self.assertIn("__init__.py", FILES)
+
+    def test_sizes_and_characters(self):
+        for name, text, tree in trees():
+            lines = text.split("\n")
+            self.assertLessEqual(len(lines), 399, name)
+            self.assertTrue(all(len(line) <= 120 for line in lines), name)
+            self.assertTrue(all(sign == "\n" or " " <= sign <= "~" for sign in text), name)
+            self.assertTrue(text.endswith("\n") and not any(line.endswith(" ") for line in lines), name)
+            for function in functions(tree):
+                self.assertLessEqual(function.end_lineno - function.lineno + 1, 40, (name, function.name))
+
+    def test_module_level(self):
+        for name, _, tree in trees():
+            self.assertIsInstance(tree.body[0], ast.Expr)
+            bound = []
+            for node in tree.body[1:]:
+                self.assertIsInstance(node, (ast.ImportFrom, ast.FunctionDef, ast.ClassDef, ast.Assign), name)
+                if isinstance(node, ast.ImportFrom):
+                    bound += [alias.name for alias in node.names]
+                elif isinstance(node, ast.Assign):
+                    self.assertEqual(len(node.targets), 1)
+                    ast.literal_eval(node.value)
+                    bound.append(node.targets[0].id)
+                else:
+                    bound.append(node.name)
+            self.assertEqual(len(bound), len(set(bound)), name)
+
+    def test_imports_are_of_the_package_and_used(self):
+        defined = {name: {getattr(node, "name", None) or node.targets[0].id for node in tree.body if isinstance(node, (ast.FunctionDef, ast.ClassDef, ast.Assign))} for name, _, tree in trees()}
+        imports = {name: set() for name in defined}
+        for name, text, tree in trees():
+            for node in ast.walk(tree):
+                self.assertNotIsInstance(node, ast.Import)
+                if isinstance(node, ast.ImportFrom):
+                    self.assertIn(node, tree.body)
+                    package, _, file = node.module.partition(".")
+                    self.assertEqual((package, node.level), ("goneyet", 0))
+                    imports[name].add(file)
+                    for alias in node.names:
+                        self.assertIsNone(alias.asname)
+                        self.assertIn(alias.name, defined[file])
+                        self.assertGreater(len(re.findall(rf"\b{alias.name}\b", text)), 1, (name, alias.name))
+        left = dict(imports)
+        while left:
+            free = [name for name in left if not left[name] & set(left)]
+            self.assertTrue(free, left)
+            for name in free:
+                del left[name]
+
+    def test_the_interface_is_defined_in_its_files(self):
+        for name, text, tree in trees():
+            defined = [node.name for node in tree.body if isinstance(node, (ast.FunctionDef, ast.ClassDef))]
+            for wanted in INTERFACE.get(name, []):
+                self.assertIn(wanted, defined)
+            if name == "net":
+                methods = [node.name for c in tree.body if isinstance(c, ast.ClassDef) and c.name == "Net" for node in c.body if isinstance(node, ast.FunctionDef)]
+                self.assertTrue(set(NET_METHODS) <= set(methods))
+                self.assertEqual(len(methods), len(set(methods)))
+
+    def test_statements_and_expressions_that_are_not_used(self):
+        barred = (
+            ast.Global, ast.AsyncFunctionDef, ast.Await, ast.GeneratorExp, ast.Yield, ast.YieldFrom, ast.Lambda, ast.With, ast.NamedExpr, ast.Match,
+            ast.AnnAssign, ast.Div, ast.Starred, ast.Set, ast.SetComp, ast.Nonlocal, ast.Delete,
+        )
+        for where, node in self.each(barred):
+            # A star stands in zip(*lists) alone.
+            self.assertTrue(isinstance(node, ast.Starred) and isinstance(node.value, ast.Name), where)
+        for where, node in self.each((ast.FunctionDef, ast.ClassDef)):
+            self.assertEqual(node.decorator_list, [], where)
+        for where, node in self.each(ast.Constant):
+            self.assertIsInstance(node.value, (int, str, type(None)), where)
+            if isinstance(node.value, str):
+                self.assertNotIn("%", node.value, where)
+
+    def test_own_errors_alone_are_caught(self):
+        for where, node in self.each(ast.ExceptHandler):
+            self.assertIn(node.type.id, ("GoneError", "BadDeed"), where)
+        for where, node in self.each(ast.Raise):
+            self.assertTrue(node.exc is None or isinstance(node.exc, ast.Call), where)
+
+    def test_names(self):
+        for name, text, tree in trees():
+            imported = {alias.name for node in tree.body if isinstance(node, ast.ImportFrom) for alias in node.names}
+            classes = {node.name for node in tree.body if isinstance(node, ast.ClassDef)}
+            for function in functions(tree):
+                bound = bound_names(function) | {function.name}
+                self.assertFalse(bound & set(NAMES), (name, function.name))
+                local = bound_names(function) | {inner.name for inner in functions(function) if inner is not function}
+                self.assertFalse(local & (imported | classes), (name, function.name))
+                self.assertFalse(bound & BARRED_WORDS, (name, function.name))
+                for word in bound:
+                    self.assertRegex(word, r"^(_|_?[a-zA-Z][a-zA-Z0-9_]*|__init__|__eq__)$")
+                    self.assertFalse(re.match(r"_(wall|pe_|dcw_|enum_|cm_|twin_re_|lay_|law_|stub_|sre)", word))
+            for made in classes:
+                self.assertRegex(made, r"^[A-Z]")
+            code = re.sub(r'"""(.|\n)*?"""|#.*', "", text)
+            self.assertFalse(set(re.findall(r"[A-Za-z_]+", code)) & BARRED_WORDS, name)
+
+    def test_underscore_is_never_read(self):
+        for where, node in self.each(ast.Name):
+            self.assertFalse(node.id == "_" and isinstance(node.ctx, ast.Load), where)
+
+    def test_builtins_methods_and_keywords(self):
+        own = {function.name for _, _, tree in trees() for function in functions(tree)}
+        classes = {node.name for _, _, tree in trees() for node in tree.body if isinstance(node, ast.ClassDef)}
+        for name, _, tree in trees():
+            for node in ast.walk(tree):
+                if isinstance(node, ast.Name) and node.id in NAMES:
+                    self.assertIn(node.id, BUILTINS, (name, node.lineno))
+                if isinstance(node, ast.Call):
+                    where = (name, node.lineno)
+                    if isinstance(node.func, ast.Attribute):
+                        self.assertIn(node.func.attr, METHODS | own, where)
+                        self.assertEqual(node.keywords, [], where)
+                    elif isinstance(node.func, ast.Name) and node.func.id not in own | classes:
+                        self.assertTrue(all(word.arg in ("key", "reverse", "default", "start") for word in node.keywords), where)
+
+    def test_is_stands_beside_none_true_and_false(self):
+        for where, node in self.each(ast.Compare):
+            for operator, other in zip(node.ops, node.comparators):
+                if isinstance(operator, (ast.Is, ast.IsNot)):
+                    self.assertTrue(isinstance(other, ast.Constant) and other.value in (None, True, False), where)
+
+    def test_sets_stand_in_sorted_and_len_alone(self):
+        for name, _, tree in trees():
+            inner = [arg for node in ast.walk(tree) if isinstance(node, ast.Call) and getattr(node.func, "id", "") in ("sorted", "len") for arg in node.args]
+            for node in ast.walk(tree):
+                if isinstance(node, ast.Call) and getattr(node.func, "id", "") == "set":
+                    self.assertIn(node, inner, (name, node.lineno))
+
+    def test_what_is_iterated_over_is_not_changed(self):
+        for where, node in self.each(ast.For):
+            read = {ast.unparse(part) for part in ast.walk(node.iter) if isinstance(part, (ast.Name, ast.Attribute))}
+            for part in ast.walk(node):
+                if isinstance(part, ast.Call) and isinstance(part.func, ast.Attribute) and part.func.attr in CHANGING:
+                    self.assertNotIn(ast.unparse(part.func.value), read, where)
+                if isinstance(part, ast.Subscript) and isinstance(part.ctx, (ast.Store, ast.Del)):
+                    self.assertNotIn(ast.unparse(part.value), read, where)
+
+    def test_eager_functions_take_lists(self):
+        # zip and its like are iterated at once; any and all take lists.
+        for where, node in self.each(ast.Call):
+            if getattr(node.func, "id", "") in ("any", "all"):
+                self.assertIsInstance(node.args[0], ast.ListComp, where)
+        for where, node in self.each((ast.Assign, ast.Return)):
+            if isinstance(node.value, ast.Call):
+                self.assertNotIn(getattr(node.value.func, "id", ""), ("zip", "enumerate", "reversed", "range", "map"), where)
+
+    def test_special_methods(self):
+        for where, node in self.each(ast.FunctionDef):
+            if node.name.startswith("__"):
+                self.assertIn(node.name, ("__init__", "__eq__"), where)
+            if node.name == "__init__":
+                self.assertFalse(any(isinstance(part, ast.Return) for part in ast.walk(node)), where)
