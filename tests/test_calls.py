@@ -3,7 +3,11 @@
 import copy
 import unittest
 
-from goneyet import forms, leasttable, origins, reader, rowlots, rulebooks, scripts, sorts, texts
+from books import CLEAN, EVER, FORGETFUL, LONGER, NEVER_TOLD
+from goneyet import (
+    classes, falling, fleets, forms, freshnets, leads, leasttable, longer, lots, origins, papers, reader, rowlots, rulebooks, scripts, sorts,
+    tablejudge, texts, toldends, turning, windows,
+)
 from goneyet.errors import GoneError
 from goneyet.net import Net
 from samples import ODD, PAIR, RING, WORDY
@@ -48,6 +52,62 @@ def calls():
     told += [(origins.levels_of, (origins.old_tree(PAIR, ("a",), "q"),)), (Net, (PAIR, ("x",), False, 0))]
     for method in METHODS:
         told.append((by_method(method), (RING, ("a",), SCRIPT)))
+    for book in (EVER, LONGER, NEVER_TOLD, FORGETFUL, CLEAN, PAIR):
+        told += judging_calls(book) + walking_calls(book)
+    return told
+
+
+# A rulebook that is well timed.
+CHAIN = (("a",), (("e", 3, 2, ((("kind", "f", 1, 1, 9),), (("row", "a", 0, 9),))), ("f", 4, 1, ((("kind", "e", 1, 2, 9),),))))
+
+
+def judging_calls(book):
+    """Calls of the functions that tell and judge tables, papers, lots, falls, bounds, circles and class papers."""
+    told, struck = [], ("a",)
+    for name in rulebooks.kind_names(book):
+        told += [(function, (book, struck, name)) for function in (lots.lean_pairs, classes.class_of, classes.class_paper)]
+        told += [(papers.paper_of, (book, struck, name, day, tell)) for day, tell in ((-2, 0), (1, 3), (-6, None))]
+        told += [(longer.standing_script, (book, struck, name, day)) for day in (0, 5)] + [(turning.turning_script, (book, struck, name, 3))]
+        told += [(leads.is_backed, (book, struck, (name, lead), [(name, 3), (name, None)])) for lead in (1, None)]
+        paper = papers.paper_of(book, struck, name, -2, 0)
+        if paper is not None:
+            told += [(freshnets.net_of, (book, struck, paper, 2)), (freshnets.maker_of, (book, struck, paper)), (papers.is_paper, (book, struck, paper))]
+        told.append((classes.is_class_paper, (book, struck, name, classes.class_paper(book, struck, name))))
+        told += [(classes.is_class_paper, (book, struck, name, odd)) for odd in (None, ("none", ()), ("ever", []), ["gone", 0])]
+    for function in (
+        leads.never_kinds, lots.greatest_pairs, lots.ever_kinds, falling.falling, toldends.told_ends, toldends.rise_of, longer.circle_of,
+        longer.longer_kinds, classes.all_classes,
+    ):
+        told.append((function, (book, struck)))
+    hold = lots.greatest_pairs(book, struck)
+    choice = lots.choice_of(book, struck, hold)
+    told += [(lots.choice_of, (book, struck, hold)), (lots.is_choice, (book, struck, hold, choice)), (lots.is_choice, (book, struck, hold, {}))]
+    table = leasttable.table_of(book, struck, 4)
+    told += [(tablejudge.bars_makings, (book, struck, 4, thing)) for thing in (table, list(table), None)]
+    told += [(tablejudge.first_unmet, (book, struck, 4, table)), (leads.lead_bound, (book,)), (leads.lead_ahead, (("kind", "p", 1, 2, 9), 5))]
+    things = [hold, falling.falling(book, struck), toldends.told_ends(book, struck), toldends.rise_of(book, struck), longer.circle_of(book, struck)]
+    for function in (
+        papers.is_paper, lots.is_held_up, falling.is_falling, toldends.is_told_bound, toldends.is_rise, longer.is_circle,
+    ):
+        told += [(function, (book, struck, thing)) for thing in things + [None, [], {}, [None], {"p": [1]}]]
+    return told
+
+
+def walking_calls(book):
+    """Calls of the functions that tell and judge walks in fleets, of a rulebook and of one that is well timed."""
+    told, struck = [], ("a",)
+    for rulebook in (book, CHAIN):
+        many = len(rulebook[1])
+        names = tuple(rulebooks.kind_names(rulebook))
+        told += [(function, (rulebook, struck)) for function in (windows.is_threaded, windows.is_well_timed, windows.steps_of, windows.first_tells)]
+        told.append((windows.with_bars, (rulebook, (30,) * many)))
+        for fleet in ((1,) * many, (3,) * many):
+            for function in (fleets.fleet_end, fleets.endless_walk, fleets.longest_walk, fleets.heights_of):
+                told.append((function, (rulebook, struck, fleet)))
+            for thing in (names, names[:1], list(names), None, [], [((names[0], ((0,),) * many), 0)]):
+                told += [(windows.keeps_windows, (rulebook, struck, fleet, thing)), (fleets.are_heights, (rulebook, struck, fleet, thing))]
+    heights = fleets.heights_of(CHAIN, struck, (1, 1))
+    told += [(fleets.are_heights, (CHAIN, struck, (1, 1), heights)), (windows.news_of, (CHAIN, struck, ("e", "f", "e")))]
     return told
 
 
@@ -133,8 +193,9 @@ class CallsTest(unittest.TestCase):
     def test_truths(self):
         for function, arguments in calls():
             name = getattr(function, "__name__", "")
-            if name.startswith("is_"):
-                self.assertIs(type(function(*arguments)), bool)
+            if name.startswith("is_") or name in ("bars_makings", "keeps_windows", "are_heights"):
+                told = outcome(function, arguments)
+                self.assertTrue(type(told[1]) is bool or told[0] == "NotTimed")
 
     def test_methods_that_change_return_none(self):
         net = Net(RING, ("a",), False, -1)
@@ -153,3 +214,23 @@ class CallsTest(unittest.TestCase):
         for told in (net.answers_now(), net.barred_now()):
             self.assertEqual(len(told), 5)
             self.assertEqual(list(told), sorted(told))
+
+    def test_keys_of_all_dicts_ascend(self):
+        seen = set()
+        for function, arguments in calls():
+            told = outcome(function, arguments)
+            for found in dicts_in(told[1]) if told[0] == "told" else []:
+                seen.add(function.__name__)
+                # NEVER is the greatest lead.
+                keys = [(key[0], key[1] is None, key[1]) if isinstance(key, tuple) and len(key) == 2 else key for key in found]
+                self.assertEqual(keys, sorted(keys))
+        self.assertTrue({"told_ends", "rise_of", "circle_of", "all_classes", "class_paper", "choice_of", "first_tells"} <= seen)
+
+
+def dicts_in(value):
+    """All dicts in a value."""
+    if isinstance(value, dict):
+        return [value] + [found for part in value.values() for found in dicts_in(part)]
+    if isinstance(value, (list, tuple)):
+        return [found for part in value for found in dicts_in(part)]
+    return []

@@ -49,9 +49,10 @@ STAGE_3 = r'''
 [('q', 0, (('p', 1, (None,)), None)), ('q', 0, (('p', 0, (None,)), None)), 2]
 '''
 
-# Of stage 4 those of goneyet.leasttable.
 STAGE_4 = r'''
 >>> from goneyet.leasttable import last_day, last_making, table_of, told_by
+>>> from goneyet.papers import is_paper
+>>> from goneyet.tablejudge import bars_makings, first_unmet
 >>> copies = (("kind", "e", 1, 0, 9),)
 >>> book = (("a",), (("e", 5, 0, (copies, (("row", "a", 2, 9),))),))
 >>> [last_making(book, ("a",), "e", told) for told in (0, 2, 3, None)]
@@ -60,6 +61,62 @@ STAGE_4 = r'''
 [2, 'none', 1]
 >>> table_of(book, ("a",), 3)
 ((1, 1, 1, None, None),)
+>>> [bars_makings(book, ("a",), 3, ((1, 1, 1, None, None),)), first_unmet(book, ("a",), 3, ((1, 1, 0, None, None),))]
+[True, ('e', 2)]
+>>> is_paper(book, ("a",), [("e", -1, 2, 1, (None,)), ("e", 1, 2, 0, (0,))])
+True
+'''
+
+STAGE_5 = r'''
+>>> from goneyet.falling import falling, is_falling
+>>> from goneyet.lots import choice_of, ever_kinds, is_held_up, lean_pairs
+>>> from goneyet.leads import lead_ahead, lead_bound, never_kinds
+>>> p = ("p", 2, 0, ((("kind", "p", 1, 1, 9),), (("row", "a", 0, 9),)))
+>>> rulebook = (("a",), (p,))
+>>> [never_kinds(rulebook, ("a",)), lead_bound(rulebook), lead_ahead(("kind", "p", 1, 1, 9), 1), ever_kinds(rulebook, ("a",))]
+[(), 16, 1, ('p',)]
+>>> [is_held_up(rulebook, ("a",), [("p", 1)]), is_held_up(rulebook, ("a",), [("p", 1), ("p", 2)])]
+[False, True]
+>>> choice_of(rulebook, ("a",), [("p", 1), ("p", 2)])
+{('p', 1): (0, (('p', 2),)), ('p', 2): (0, (('p', 2),))}
+>>> is_held_up(rulebook, ("a",), lean_pairs(rulebook, ("a",), "p"))
+True
+>>> slow = (("a",), (("p", 3, 0, ((("kind", "p", 2, 1, 9),), (("row", "a", 0, 9),))),))
+>>> [ever_kinds(slow, ("a",)), falling(slow, ("a",))[0], len(falling(slow, ("a",)))]
+[(), ('p', 16), 16]
+'''
+
+STAGE_6 = r'''
+>>> from goneyet.classes import all_classes, class_paper, is_class_paper
+>>> from goneyet.longer import circle_of, longer_kinds
+>>> from goneyet.toldends import is_told_bound, rise_of, told_ends
+>>> copies = (("kind", "e", 2, 1, 9),)
+>>> kinds = (("e", 3, 0, (copies, (("row", "a", 0, 9),))), ("f", 1, 0, ((("row", "a", 2, 9),),)), ("g", 1, 0, ((("row", "b", 0, 9),),)))
+>>> book = (("a", "b"), kinds)
+>>> [told_ends(book, ("a",)), is_told_bound(book, ("a",), {"e": None, "f": 2}), is_told_bound(book, ("a",), {"e": 7, "f": 2})]
+[{'e': 'endless', 'f': 2}, True, False]
+>>> [rise_of(book, ("a",)), circle_of(book, ("a",)), longer_kinds(book, ("a",))]
+[{'e': (0, None)}, {'e': (0, None)}, ['e']]
+>>> all_classes(book, ("a",))
+{'e': 'longer', 'f': 'gone', 'g': 'none'}
+>>> [is_class_paper(book, ("a",), "g", ("none", ("e", "f"))), is_class_paper(book, ("a",), "g", ("none", ("e",)))]
+[True, False]
+'''
+
+# Of stage 7 those of goneyet.windows and goneyet.fleets.
+STAGE_7 = r'''
+>>> from goneyet.fleets import fleet_end, heights_of
+>>> from goneyet.windows import is_well_timed, keeps_windows, news_of, steps_of
+>>> grounds = ((("kind", "e", 1, 1, 9),), (("row", "a", 0, 9),))
+>>> book = (("a",), (("e", 2, 1, grounds),))
+>>> [is_well_timed(book, ("a",)), steps_of(book, ("a",)), news_of(book, ("a",), ("e", "e", "e"))]
+[True, [('e', 'e', 1)], 2]
+>>> [keeps_windows(book, ("a",), (2,), ("e", "e")), keeps_windows(book, ("a",), (2,), ("e", "e", "e"))]
+[True, False]
+>>> [fleet_end(book, ("a",), (keepers,)) for keepers in (0, 1, 2, 3)]
+[None, 0, 1, 'ever']
+>>> heights_of(book, ("a",), (2,))
+[(('e', ((0,),)), 1), (('e', ((1, 0),)), 0)]
 '''
 
 
@@ -79,4 +136,13 @@ class ExamplesTest(unittest.TestCase):
         self.run_examples(STAGE_3, 10)
 
     def test_stage_4(self):
-        self.run_examples(STAGE_4, 6)
+        self.run_examples(STAGE_4, 10)
+
+    def test_stage_5(self):
+        self.run_examples(STAGE_5, 11)
+
+    def test_stage_6(self):
+        self.run_examples(STAGE_6, 10)
+
+    def test_stage_7(self):
+        self.run_examples(STAGE_7, 8)

@@ -3,8 +3,9 @@
 import random
 import unittest
 
+from books import HAND
 from goneyet import forms
-from samples import COPY, ODD, PAIR, RING, ROW, SAMPLES, WORDY, random_rulebook
+from samples import COPY, ODD, PAIR, RING, ROW, SAMPLES, WORDY, drawn, random_rulebook
 
 
 def row(name="a", tell=1, most=9):
@@ -21,6 +22,10 @@ class FormsTest(unittest.TestCase):
             self.assertIs(function(thing), True, thing)
         for thing in bad:
             self.assertIs(function(thing), False, thing)
+
+    def test_the_rulebooks_of_the_tests(self):
+        for rulebook in list(HAND) + [drawn(seed)[0] for seed in range(100)]:
+            self.assertIs(forms.is_rulebook(rulebook), True, rulebook)
 
     def test_integers(self):
         self.check(forms.is_integer, [0, 1, -1, 10 ** 39, -10 ** 39], [True, False, None, "1", 1.0, (1,), [1], {}, "", b"1"])

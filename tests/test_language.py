@@ -24,6 +24,18 @@ INTERFACE = {
     "rowlots": ["kinds_reached", "least_supports", "least_chokes"],
     "origins": ["clean_tree", "old_tree", "is_clean_tree", "is_old_tree", "levels_of"],
     "leasttable": ["last_making", "last_day", "told_by", "table_of"],
+    "tablejudge": ["bars_makings", "first_unmet"],
+    "papers": ["is_paper", "paper_of"],
+    "freshnets": ["net_of", "maker_of"],
+    "leads": ["never_kinds", "lead_ahead", "lead_bound", "is_backed"],
+    "lots": ["is_held_up", "is_choice", "greatest_pairs", "ever_kinds", "lean_pairs", "choice_of"],
+    "falling": ["falling", "is_falling"],
+    "turning": ["turning_script"],
+    "toldends": ["told_ends", "rise_of", "is_told_bound", "is_rise"],
+    "longer": ["is_circle", "circle_of", "longer_kinds", "standing_script"],
+    "classes": ["class_of", "all_classes", "class_paper", "is_class_paper"],
+    "windows": ["is_threaded", "is_well_timed", "keeps_windows", "with_bars", "steps_of", "first_tells", "news_of"],
+    "fleets": ["fleet_end", "endless_walk", "longest_walk", "are_heights", "heights_of"],
 }
 NET_METHODS = [
     "dawn", "tell", "make", "clean", "tell_due", "lists_now", "news_now", "deeds_done", "day_now", "is_morning", "answers_now", "barred_now",
@@ -120,6 +132,7 @@ class LanguageTest(unittest.TestCase):
                 del left[name]
 
     def test_the_interface_is_defined_in_its_files(self):
+        self.assertTrue(set(INTERFACE) <= {name[:-3] for name in FILES})
         for name, text, tree in trees():
             defined = [node.name for node in tree.body if isinstance(node, (ast.FunctionDef, ast.ClassDef))]
             for wanted in INTERFACE.get(name, []):

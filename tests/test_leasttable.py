@@ -1,87 +1,16 @@
 """Points [7], [10], [14], [33]: the least table."""
 
 import random
+import time
 import unittest
 
+from books import A, ENDED, EVER, HAND, LONGER, LOST, NEVER_TOLD, RINGS, ROW, SINKING, STEPS, book, need, order
 from daybyday import greatest_tolds, plain_table
 from goneyet.leasttable import last_day, last_making, table_of, told_by
 from goneyet.rulebooks import kind_names, numbers_at, places_of, need_at, with_numbers
-from goneyet.sorts import able_kinds, live_grounds, old_needs
-from samples import PAIR, RING, WORDY, random_rulebook
-
-A = ("a",)
-ROW = (("row", "a", 0, 9),)
-
-
-def need(name="p", after=1, tell=1, most=9):
-    return ("kind", name, after, tell, most)
-
-
-def book(*kinds):
-    """A rulebook of row a and kinds (name, keep, ground, ground ..)."""
-    return (A, tuple([(kind[0], kind[1], 0, tuple(sorted(kind[2:]))) for kind in kinds]))
-
-
-# Rulebooks with kinds of all sorts: EVER, LONGER, GONE in several ways.
-EVER = book(("p", 2, (need(),), ROW))
-LONGER = book(("p", 3, (need(after=2),), ROW))
-SLOW = book(("p", 8, (need(after=7),), ROW))
-LOST = book(("p", 3, (need(most=2),), ROW))
-NEVER_TOLD = book(("p", 4, (("row", "a", 0, 3),)))
-FORGETFUL = book(("p", 3, (need(tell=0, most=0),), ROW))
-RINGS = book(("p", 4, (need("q", 3),), ROW), ("q", 3, (need("r", 1, 0),)), ("r", 5, (need("p", 4, 2), need("q", 1, 1)), (("row", "a", 4, 9),)))
-# Answers of r are told at last, as late as one likes, but are made by day -4 then.
-ENDED = book(("p", 2, (need(),), ROW), ("r", 8, (need(), ("row", "a", 0, 3))))
-SINKING = book(("p", 8, (need("q", 1, 4),), ROW), ("q", 8, (need("r", 1, 4),)), ("r", 8, (need("s", 1, 4),)), ("s", 8, (need("t", 1, 4),)), ("t", 8, (("row", "a", 4, 9),)))
-STEPS = book(
-    ("p", 8, (need(after=2, tell=0),), (need("q", 1, 3), need("t", 1, 1, 5)), (need("q", 2), need("q", 7)), (("row", "a", 1, 9),)),
-    ("q", 4, (need("q", 4, 4), need("r", 2, 4)), (("row", "a", 4, 9),)),
-    ("r", 6, (need("q", 3), need("s")), (need("s", 1, 4, 2), need("t", 1, 4)), (need("s", 2, 4, 5), need("t", 5, 4)), (need("t", 1, 4),)),
-    ("s", 6, (need("p", 7, 4), need("q", 3, 4, 6))),
-    ("t", 7, (need("p", 2, 3), need("s", 4, 3), need("t", 7, 4)), (need("p", 4, 4), need("r")), (need("r", 1, 0), need("s", 3, 2), need("t", 6, 2)), ROW),
-)
-HAND = (EVER, LONGER, SLOW, LOST, NEVER_TOLD, FORGETFUL, RINGS, ENDED, SINKING, STEPS, RING, PAIR, WORDY)
-
-
-def order(day):
-    """A making day as a number, by the order NONE, days, ENDLESS."""
-    return -10 ** 6 if day is None else 10 ** 6 if day == "endless" else day
-
-
-def given_by(rulebook, table, need_, told):
-    """U of [10] for a need and a told day, the values being those of a table up to 60, straight from the words."""
-    if need_[0] == "row":
-        _, _, tell, most = need_
-        if told is not None and told <= tell:
-            return -1
-        return None if most == 9 else -(most + 1)
-    _, name, _, tell, most = need_
-    place = kind_names(rulebook).index(name)
-    keep, column = rulebook[1][place][1], table[place]
-    best = None
-    for day in range(-30, 131):
-        choices = [] if told is None else [told - tell]
-        if most < 9:
-            choices.append(day + most + 1)
-        asked = max(0, day + 1, min(choices)) if choices else None
-        value = column[-1] if asked is None else column[min(asked, 60)]
-        if order(value) >= day - keep + 1:
-            best = day
-    return "endless" if best == 130 else best
-
-
-def row_gives(rulebook, struck, table, name, told):
-    """What the row of [10] for a kind and a told day gives."""
-    values = [None]
-    for index in live_grounds(rulebook, name):
-        word, places = old_needs(rulebook, struck, name, index)
-        given = [given_by(rulebook, table, need_at(rulebook, (name, index, place)), told) for place in places]
-        if word == "all":
-            values.append(min(given, key=order))
-        else:
-            values.extend(given)
-    return max(values, key=order)
-
+from goneyet.sorts import able_kinds
+from plainrows import row_gives
+from samples import PAIR, RING, heavy_rulebook, random_rulebook
 
 class TableTest(unittest.TestCase):
     def test_by_hand(self):
@@ -242,6 +171,119 @@ class MakingTest(unittest.TestCase):
             struck = rulebook[0][:1]
             for column in table_of(rulebook, struck, 4):
                 self.assertFalse(any(isinstance(day, bool) for day in column))
+
+
+# The rulebook that took longest once; five kinds, with three needs in most grounds.
+WIDE = (("a",), (
+    ("p", 6, 0, (
+        (("kind", "p", 1, 0, 9), ("kind", "t", 1, 2, 9), ("kind", "t", 2, 4, 9)),
+        (("kind", "p", 3, 0, 9), ("kind", "q", 2, 1, 9), ("kind", "s", 1, 2, 5)),
+        (("kind", "q", 1, 0, 9), ("kind", "s", 1, 0, 9), ("kind", "t", 3, 2, 9)),
+        (("row", "a", 1, 9),),
+    )),
+    ("q", 7, 0, (
+        (("kind", "p", 2, 1, 9), ("kind", "p", 3, 4, 9), ("kind", "s", 3, 1, 9)),
+        (("kind", "q", 1, 1, 9), ("kind", "r", 1, 1, 8), ("kind", "r", 2, 3, 5)),
+        (("kind", "q", 2, 1, 9), ("kind", "q", 3, 0, 8), ("kind", "t", 3, 4, 9)),
+        (("row", "a", 3, 9),),
+    )),
+    ("r", 8, 0, (
+        (("kind", "p", 2, 0, 9), ("kind", "s", 2, 3, 9), ("kind", "t", 1, 0, 9)),
+        (("kind", "p", 2, 0, 9), ("kind", "t", 2, 2, 9), ("kind", "t", 3, 1, 9)),
+        (("kind", "q", 1, 1, 9), ("kind", "r", 2, 0, 5), ("kind", "s", 2, 2, 5)),
+        (("row", "a", 2, 9),),
+    )),
+    ("s", 7, 0, (
+        (("kind", "p", 1, 4, 5), ("kind", "q", 1, 4, 9), ("kind", "r", 2, 2, 8)),
+        (("kind", "p", 3, 3, 8), ("kind", "q", 1, 4, 9), ("kind", "r", 2, 0, 9)),
+        (("kind", "r", 3, 1, 9), ("kind", "r", 3, 3, 9), ("kind", "t", 2, 0, 9)),
+        (("row", "a", 3, 9),),
+    )),
+    ("t", 6, 0, (
+        (("kind", "p", 2, 1, 9), ("kind", "s", 2, 4, 9), ("kind", "s", 3, 0, 5)),
+        (("kind", "q", 1, 4, 5), ("kind", "q", 2, 1, 9), ("kind", "q", 3, 2, 9)),
+        (("kind", "s", 1, 0, 8), ("kind", "s", 2, 1, 8), ("kind", "t", 1, 4, 8)),
+        (("row", "a", 2, 9),),
+    )),
+))
+
+
+def at_bounds(rng):
+    """A rulebook of kinds all of whose numbers are at one of their bounds."""
+    names = "pqrst"[:rng.choice([2, 3, 5])]
+    made = []
+    for name in names:
+        grounds = {(("row", "a", rng.choice([0, 4]), rng.choice([0, 8, 9])),)} if rng.random() < 0.6 else set()
+        for _ in range(rng.choice([1, 3])):
+            grounds.add(tuple(sorted({("kind", rng.choice(names), rng.choice([1, 7]), rng.choice([0, 4]), rng.choice([0, 8, 9, 9, 9])) for _ in range(rng.choice([1, 3]))})))
+        made.append((name, rng.choice([1, 8, 8, 8]), rng.choice([0, 12]), tuple(sorted(grounds))))
+    return (A, tuple(made))
+
+
+class SameAnswersTest(unittest.TestCase):
+    """The four functions against the plain way by days, for rulebooks of each sort."""
+
+    def compare(self, rulebook, struck):
+        """Hold all four functions against the plain way; the sorts of the kinds."""
+        table, lasts = plain_table(rulebook, struck, 60, first=-900)
+        self.assertEqual(table_of(rulebook, struck, 60), table, rulebook)
+        rng = random.Random(repr(rulebook))
+        name = rng.choice(kind_names(rulebook))
+        column = table[kind_names(rulebook).index(name)]
+        for told in (0, rng.randint(1, 60), None):
+            self.assertEqual(last_making(rulebook, struck, name, told), column[-1 if told is None else told])
+        for other in kind_names(rulebook):
+            self.assertEqual(last_day(rulebook, struck, other), lasts[other], rulebook)
+        for day in (-200, -9, -1, 0, rng.randint(1, 30)):
+            tolds = [told for told in range(61) if order(column[told]) >= day]
+            told = told_by(rulebook, struck, name, day)
+            if order(column[-1]) >= day:
+                self.assertIsNone(told)
+            else:
+                self.assertEqual(told, "none" if not tolds else "endless" if tolds[-1] == 60 else tolds[-1])
+        return {(one[0] is None, one[0] == "endless", one[-1] is None, one[-1] == "endless") for one in table}
+
+    def test_drawn_rulebooks(self):
+        sorts = set()
+        for seed in range(1000, 1070):
+            rulebook, struck = heavy_rulebook(random.Random(seed))
+            sorts |= self.compare(rulebook, struck)
+        for seed in range(1100, 1130):
+            rulebook, _ = random_rulebook(random.Random(seed))
+            sorts |= self.compare(rulebook, rulebook[0]) | self.compare(rulebook, rulebook[0][-1:])
+        for seed in range(1200, 1230):
+            sorts |= self.compare(at_bounds(random.Random(seed)), A)
+        # Not able; GONE and told, or not; EVER or LONGER and told, or not at some time, or never.
+        self.assertEqual(sorts, {
+            (True, False, True, False), (False, False, True, False), (False, False, False, False),
+            (False, True, True, False), (False, True, False, False), (False, True, False, True),
+        })
+
+    def test_a_wide_rulebook(self):
+        self.compare(WIDE, A)
+        self.assertEqual([last_making(WIDE, A, "t", 7), told_by(WIDE, A, "q", 3), last_day(WIDE, A, "s")], ["endless"] * 3)
+        self.assertEqual([last_making(WIDE, A, name, None) for name in "pqrst"], [None, None, None, None, "endless"])
+        self.assertEqual(table_of(WIDE, A, 60), (("endless",) * 61 + (None,),) * 4 + (("endless",) * 62,))
+
+    def test_a_wide_rulebook_is_answered_soon(self):
+        begin = time.process_time()
+        for _ in range(50):
+            table_of(WIDE, A, 60)
+            last_making(WIDE, A, "t", 7)
+            told_by(WIDE, A, "q", 3)
+            last_day(WIDE, A, "s")
+        # They take a fifth of a second here together; once it was more than forty.
+        self.assertLess(time.process_time() - begin, 10)
+
+    def test_wide_rulebooks_whose_kinds_are_gone(self):
+        rng = random.Random(8)
+        found = 0
+        while found < 12:
+            rulebook, struck = heavy_rulebook(rng, rng.choice([9, None]))
+            lasts = [last_day(rulebook, struck, name) for name in kind_names(rulebook)]
+            if len([last for last in lasts if isinstance(last, int) and last > 8]) >= 2:
+                found += 1
+                self.compare(rulebook, struck)
 
 
 class WhichWayTest(unittest.TestCase):
