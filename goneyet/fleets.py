@@ -130,37 +130,18 @@ def fleet_end(rulebook, struck, fleet):
     return "ever" if len(heights) < len(graph) else _last_news(plan, heights)
 
 
-def _path_to(plan, graph, goals):
-    """The list of the states of a walk up to one of some goals, from a beginning."""
-    before = {state: None for state in _beginnings(plan)}
-    left = list(before)
-    at = 0
-    while left[at] not in goals:
-        state = left[at]
-        for there, _ in graph[state]:
-            if there not in before:
-                before[there] = state
-                left.append(there)
-        at += 1
-    path = [left[at]]
-    while before[path[-1]] is not None:
-        path.append(before[path[-1]])
-    return path[::-1]
-
-
 def endless_walk(rulebook, struck, fleet):
     """The tuple (ahead, round) of kinds of a walk without end; None if there is none."""
     plan, graph = _timed_plan(rulebook, struck, fleet)
     heights = _heights(graph)
-    endless = {state: True for state in graph if state not in heights}
-    if not endless:
+    path = [state for state in _beginnings(plan) if state not in heights][:1]
+    if not path:
         return None
-    path = _path_to(plan, graph, endless)
     places = {}
-    # From a state without a height some way leads to another one, until one comes again.
+    # From a state without a height some step leads to another one, until one comes again.
     while path[-1] not in places:
         places[path[-1]] = len(path)
-        path.append([there for there, _ in graph[path[-1]] if there in endless][0])
+        path.append([there for there, _ in graph[path[-1]] if there not in heights][0])
     kinds = [state[0] for state in path]
     start = places[path[-1]]
     return (tuple(kinds[:start]), tuple(kinds[start:]))

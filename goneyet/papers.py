@@ -21,9 +21,9 @@ def _is_step_form(rulebook, live, thing):
     return index in live[name] and len(parts) == len(kind_of(rulebook, name)[3][index])
 
 
-def _is_at_most(told, other):
-    """Whether a told day is no later than another one."""
-    return other is None or (told is not None and told <= other)
+def _is_by(told, day):
+    """Whether a told day is a day up to this one."""
+    return told is not None and told <= day
 
 
 def _is_lost(need, days):
@@ -36,7 +36,7 @@ def _is_row_met(struck, need, step, part):
     if part is not None or need[1] not in struck:
         return part is None
     _, day, told, _, _ = step
-    return day <= -1 and (_is_at_most(told, need[2]) or _is_lost(need, -day))
+    return day <= -1 and (_is_by(told, need[2]) or _is_lost(need, -day))
 
 
 def _is_met_by_step(rulebook, need, step, giver):
@@ -48,7 +48,7 @@ def _is_met_by_step(rulebook, need, step, giver):
         return False
     if giver[2] is None:
         return True
-    return giver[2] > day and (_is_at_most(told, giver[2] + tell) or _is_lost(need, giver[2] - day))
+    return giver[2] > day and (_is_by(told, giver[2] + tell) or _is_lost(need, giver[2] - day))
 
 
 def _is_met(rulebook, struck, clean, need, step, part, earlier):

@@ -16,11 +16,6 @@ def is_threaded(rulebook, struck):
     return all([len(needs_threaded(struck, ground)) <= 1 for kind in rulebook[1] for ground in kind[3]])
 
 
-def _all_threads(rulebook, struck):
-    """The list of (name, need) of the needs on struck rows and kinds, of all grounds."""
-    return [(kind[0], need) for kind in rulebook[1] for ground in kind[3] for need in needs_threaded(struck, ground)]
-
-
 def _live_threads(rulebook, struck):
     """The list of (name, need) of the needs on struck rows and kinds, of the live grounds."""
     live = live_indexes(rulebook)
@@ -34,7 +29,8 @@ def is_well_timed(rulebook, struck):
     """Whether a rulebook is threaded and well timed."""
     if not is_threaded(rulebook, struck):
         return False
-    if not all([need[-1] == FOR_GOOD for _, need in _all_threads(rulebook, struck)]):
+    needs = [need for kind in rulebook[1] for ground in kind[3] for need in needs_threaded(struck, ground)]
+    if not all([need[-1] == FOR_GOOD for need in needs]):
         return False
     threads = _live_threads(rulebook, struck)
     if not all([kind_of(rulebook, name)[1] > need[-2] for name, need in threads]):

@@ -183,6 +183,9 @@ def timed_rulebook(rng, kinds=None):
     """A drawn rulebook that is well timed for row a, mostly with kinds that need themselves."""
     names = "pqrst"[:kinds or rng.choice([1, 2, 2, 3, 3, 4])]
     needs = {name: [(rng.choice(names), rng.randint(1, 4)) for _ in range(rng.choice([0, 1, 1, 2, 3]))] for name in names}
+    needed = {other for name in names for other, _ in needs[name]}
+    # A kind that nobody needs may be told of on the same morning.
+    needs = {name: [(other, rng.choice([0, d]) if name not in needed else d) for other, d in needs[name]] for name in names}
     tells = {name: [rng.randint(0, 4)] if rng.random() < 0.6 or not needs[name] else [] for name in names}
     keeps_ = {name: rng.randint(max([d for _, d in needs[name]] + tells[name]) + 1, 8) for name in names}
     # Takers may wait for so long as the least tell by which a kind takes itself.

@@ -4,6 +4,7 @@ import random
 
 from goneyet.errors import NoKind
 from goneyet.net import Net
+from goneyet.rulebooks import led_rulebook
 
 ROW = ("row", "a", 1, 9)
 COPY = ("kind", "p", 1, 1, 9)
@@ -99,9 +100,13 @@ def heavy_rulebook(rng, most=None):
 
 
 def drawn(seed):
-    """A drawn rulebook, of one of two sorts, and a struck lot of it."""
+    """A drawn rulebook, of one of two sorts, and a struck lot of it; every fifth one has kinds of the rows' names."""
     rng = random.Random(seed)
-    return heavy_rulebook(rng) if seed % 2 else random_rulebook(rng)
+    rulebook, struck = heavy_rulebook(rng) if seed % 2 else random_rulebook(rng)
+    if seed % 5 == 0:
+        alike = {kind[0]: {"p": "a", "q": "b", "r": "c"}.get(kind[0], kind[0]) for kind in rulebook[1]}
+        rulebook = led_rulebook(rulebook, {row: row for row in rulebook[0]}, alike)
+    return rulebook, struck
 
 
 def variants(value):

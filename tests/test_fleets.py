@@ -176,8 +176,9 @@ class HeightsTest(unittest.TestCase):
 
     def test_states_that_are_not_reached(self):
         least = heights_of(ONE, A, (2,))
-        for state in (("e", ((2, 0),)), ("e", ((0, 0),)), ("e", ((0,), ())), ("e", ()), ("f", ((0,),)), ("e", ((),)), ("e", ((1,),))):
-            self.assertIs(are_heights(ONE, A, (2,), sorted(least + [(state, 0)])), False)
+        for state in (("e", ((2, 0),)), ("e", ((0, 0),)), ("e", ((0,), ())), ("e", ()), ("f", ((0,),)), (["e"], ((0,),)), ({}, ((0,),)), (None, ((0,),)), ((), ((0,),)), ("e", ((),)), ("e", ((1,),))):
+            self.assertIs(are_heights(ONE, A, (2,), least + [(state, 0)]), False)
+            self.assertIs(are_heights(ONE, A, (2,), [(state, 0)] + least), False)
         graph = plainwalks.states(ONE, A, (2,), 9)
         self.assertEqual(len(graph), 2)
 
@@ -275,8 +276,8 @@ class ManyTest(unittest.TestCase):
 
 
 MANY_STATES = (
-    ((1, 2, 2), (5, 2, 3), (7, 3, 6), 2997),
-    ((1, 3, 1), (2, 5, 2), (3, 11, 1), 3002),
+    ((2, 2, 3), (4, 2, 2), (18, 6, 15), 3000),
+    ((2, 3, 1), (2, 2, 4), (8, 6, 17), 3001),
     ((1, 1, 1), (6, 1, 3), (12, 16, 16), 3002),
     ((1, 2, 3), (3, 3, 4), (8, 8, 8), 2862),
     ((1, 2, 3), (4, 4, 4), (8, 8, 8), 7596),

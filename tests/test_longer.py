@@ -78,6 +78,14 @@ class CircleTest(unittest.TestCase):
         self.assertIs(is_circle(rulebook, ("a", "b"), {"p": (0, None)}), False)
         self.assertEqual((longer_kinds(rulebook, ("a",)), longer_kinds(rulebook, ("a", "b"))), (["p"], []))
 
+    def test_kinds_with_the_names_of_rows(self):
+        grounds = ((("kind", "a", 2, 1, 9), ("row", "a", 0, 9)), (("kind", "a", 2, 1, 9),), (("row", "a", 0, 9),))
+        rulebook = (("a",), (("a", 3, 0, tuple(sorted(grounds))),))
+        index = rulebook[1][0][3].index(grounds[0])
+        self.assertIs(is_circle(rulebook, A, {"a": (index, None)}), False)
+        self.assertIs(is_circle(rulebook, A, {"a": (rulebook[1][0][3].index(grounds[1]), None)}), True)
+        self.assertIs(is_circle(rulebook, A, {"a": (rulebook[1][0][3].index(grounds[2]), None)}), False)
+
     def test_any_value_and_one_part_exchanged(self):
         told = {True: 0, False: 0}
         for rulebook, struck in [(SEVERAL, A), (CLEAN, A), (BOTH, A), (LOST, A), (STEPS, A)] + [drawn(seed) for seed in range(16)]:

@@ -100,6 +100,13 @@ class JudgeTest(unittest.TestCase):
         self.right(CLEAN, copied[:2] + [("p", -3, 2, 0, (1, 1))], True)
         self.right(CLEAN, copied[:2] + [("p", -3, 2, 0, ("else", 1))], False)
 
+    def test_kinds_with_the_names_of_rows(self):
+        # The kind a is clean by row b; that a is a struck row is no matter for needs on it.
+        rulebook = (("a", "b"), (("a", 3, 0, ((("row", "a", 0, 9),), (("row", "b", 0, 9),))), ("b", 3, 0, ((("kind", "a", 1, 0, 9),),))))
+        self.right(rulebook, [("b", -1, 0, 0, ("other",))], False)
+        self.right(rulebook, [("a", -2, 0, 0, (None,)), ("b", -1, 0, 0, (0,))], True)
+        self.right(rulebook, [("a", -2, 0, 0, (None,)), ("b", -1, 0, 0, (None,))], False)
+
     def test_grounds_that_are_not_live(self):
         rulebook = book(("p", 3, ROW), ("q", 9 - 1, (need("p", 3, 1),), (need("p", 2, 1),)), ("r", 2, ()))
         self.right(rulebook, [("p", -5, 0, 0, (None,)), ("q", -3, 0, 0, (0,))], True)

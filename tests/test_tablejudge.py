@@ -156,6 +156,24 @@ class BarsTest(unittest.TestCase):
                     self.assertNotEqual(first_unmet(rulebook, struck, most, table), told)
             self.judge(rulebook, struck, most, table)
 
+    def test_what_a_need_gives_by_any_column(self):
+        # p hangs on q alone: with just what its row gives nothing of p is unmet, with less by one that entry is.
+        rng = random.Random(9)
+        columns = [["endless", None], [MANY, -MANY, None, 3], [-30, -12, -11, -10, -9, -8], list(range(-14, 14)), [-9, -8, -3, -2, -1, 0, 1, 2, "endless"]]
+        for _ in range(400):
+            most = rng.choice([0, 1, 2, 3, 6, 11])
+            needs = tuple(sorted({need("q", 1, rng.randint(0, 4), rng.choice([9, 9, 0, 1, 4, 8])) for _ in range(rng.choice([1, 1, 2]))}))
+            rulebook = book(("p", 2, needs), ("q", rng.choice([2, 3, 8]), ROW))
+            days = rng.choice(columns)
+            table = ((None,) * (most + 2), tuple(rng.choice(days) for _ in range(most + 2)))
+            tolds = list(range(most + 1)) + [None]
+            given = tuple(row_gives(rulebook, A, table, "p", told) for told in tolds)
+            self.assertNotEqual((first_unmet(rulebook, A, most, (given, table[1])) or ("",))[0], "p")
+            for at in range(most + 2):
+                if given[at] is not None:
+                    lower = with_entry((given, table[1]), 0, at, less(given[at]))
+                    self.assertEqual(first_unmet(rulebook, A, most, lower), ("p", at), (rulebook, most, lower))
+
     def test_last_told_days_stand_for_all_later_ones(self):
         # The taker of day t wants told days up to t + 1, far above most.
         rulebook = book(("p", 2, (need("q", 1, 0),)), ("q", 3, (need("p", 1, 0),), ROW))

@@ -83,6 +83,14 @@ class TimedTest(unittest.TestCase):
             self.assertIs(is_threaded(other, A), expected)
             self.judge(other)
 
+    def test_kinds_with_the_names_of_rows(self):
+        # The row a is needed with a tell of 4, which is no waiting for kind a; the kind a copies itself with a tell of 1.
+        rulebook = (("a",), (("a", 6, 0, ((("kind", "a", 1, 1, 9),), (("row", "a", 4, 9),))),))
+        self.assertIs(self.judge(rulebook), True)
+        self.assertEqual((steps_of(rulebook, A), first_tells(rulebook, A)), ([("a", "a", 1)], {"a": 4}))
+        other = (("a", "p"), (("p", 6, 0, ((("kind", "p", 1, 1, 9),), (("row", "a", 0, 9),), (("row", "p", 3, 0),))),))
+        self.assertEqual([self.judge(other, struck) for struck in (("a",), ("p",), ("a", "p"))], [True, False, False])
+
     def test_other_rulebooks(self):
         self.assertEqual([is_threaded(one, A) for one in (EVER, LONGER, BOTH, CLEAN, RINGS, PAIR)], [True, True, False, False, False, True])
         self.assertEqual([is_well_timed(one, A) for one in (EVER, LONGER, BOTH, CLEAN, RINGS)], [True, False, False, False, False])
@@ -146,6 +154,17 @@ class WalksTest(unittest.TestCase):
             self.assertEqual(steps_of(rulebook, A), sorted([(one, other, weights[(one, other)]) for one, other in weights]))
             self.assertEqual(first_tells(rulebook, A), plainwalks.firsts(rulebook, A))
             self.assertEqual(list(first_tells(rulebook, A)), sorted(first_tells(rulebook, A)))
+
+    def test_steps_without_any_days(self):
+        # Nobody needs q, so that its tell may be 0.
+        rulebook = book(("p", 4, (need("p", 1, 1),), (("row", "a", 3, 9),)), ("q", 4, (need("p", 1, 0),)))
+        self.assertEqual(steps_of(rulebook, A), [("p", "p", 1), ("p", "q", 0)])
+        self.assertEqual([news_of(rulebook, A, walk) for walk in (("p",), ("p", "q"), ("p", "p", "q"))], [3, 3, 4])
+        self.assertIs(keeps_windows(rulebook, A, (1, 1), ("p", "q")), True)
+        self.assertEqual([(fleet_end(rulebook, A, fleet), longest_walk(rulebook, A, fleet)) for fleet in ((1, 0), (1, 1), (2, 0))], [
+            (3, ("p",)), (3, ("p",)), ("ever", None),
+        ])
+        self.assertEqual(heights_of(rulebook, A, (1, 1)), [(("p", ((0,), ())), 0), (("q", ((0,), (0,))), 0)])
 
     def test_rows_that_are_not_struck_begin_nothing(self):
         rulebook = (("a", "b"), (("p", 8, 0, ((("row", "a", 1, 9), ("row", "b", 4, 9)), (("row", "b", 3, 3),))),))
