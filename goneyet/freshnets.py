@@ -3,6 +3,7 @@
 from goneyet.net import Net
 from goneyet.origins import clean_tree
 from goneyet.rulebooks import kind_of
+from goneyet.sorts import clean_kinds
 
 
 def _numbered(paper):
@@ -16,11 +17,12 @@ def _numbered(paper):
     return keepers
 
 
-def _fresh_ground(rulebook, struck, name, known):
-    """The index of the ground by which answers of a clean kind are made here; known remembers it."""
-    if name not in known:
-        known[name] = clean_tree(rulebook, struck, name)[1]
-    return known[name]
+def _fresh_grounds(rulebook, struck):
+    """The dict from the clean kinds to the grounds by which answers that are not OLD are made here.
+
+    Each needs kinds alone whose trees have fewer levels, so that they end in rows.
+    """
+    return {name: clean_tree(rulebook, struck, name)[1] for name in clean_kinds(rulebook, struck)}
 
 
 def _others_of(rulebook, paper):
@@ -35,15 +37,14 @@ def _others_of(rulebook, paper):
 
 def _fresh_needed(rulebook, struck, paper):
     """The dict from the (kind, day) of all answers that are not OLD to the grounds by which they are made."""
+    grounds = _fresh_grounds(rulebook, struck)
     indexes = {}
-    known = {}
     left = _others_of(rulebook, paper)
     while left:
         name, day = left.pop()
         if (name, day) not in indexes:
-            index = _fresh_ground(rulebook, struck, name, known)
-            indexes[(name, day)] = index
-            needs = kind_of(rulebook, name)[3][index]
+            indexes[(name, day)] = grounds[name]
+            needs = kind_of(rulebook, name)[3][grounds[name]]
             left.extend([(need[1], day - need[2]) for need in needs if need[0] == "kind"])
     return indexes
 

@@ -118,9 +118,7 @@ def choice_of(rulebook, struck, pairs):
 
 def _is_giver(rulebook, need, lead, pairs, thing):
     """Whether a value is a pair of a HOLD that meets a need of a taker of this lead."""
-    if not is_pair(rulebook, thing) or thing not in pairs:
-        return False
-    return thing[0] == need[1] and is_need_backed(need, lead, greatest_leads([thing]))
+    return is_pair(rulebook, thing) and thing in pairs and is_need_backed(need, lead, greatest_leads([thing]))
 
 
 def _is_chosen(rulebook, choices, pair, pairs, thing):
