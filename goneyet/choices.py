@@ -10,7 +10,7 @@ whose counted needs are all met by what is OLD. Kinds that are not able have non
 from goneyet.sorts import able_kinds, clean_kinds, live_indexes, old_places
 
 
-def _choices_by(index, ground, word, places):
+def choices_by(index, ground, word, places):
     """The choices by a ground, by what old_needs tells of it."""
     if word == "all":
         return [(index, None, tuple([(place, ground[place]) for place in places]))]
@@ -27,7 +27,7 @@ def choices_of(rulebook, struck):
         choices[name] = []
         for index in live[name]:
             word, places = old_places(struck, clean, able, grounds[index])
-            choices[name].extend(_choices_by(index, grounds[index], word, places))
+            choices[name].extend(choices_by(index, grounds[index], word, places))
     return choices
 
 

@@ -3,7 +3,8 @@
 A plan of a fleet is a dict: "names", "many" and "bars" are the lists of the
 names, numbers of keepers and bars of all kinds, "onward" is the dict from each
 kind's place to the lists of (place, weight) of the steps from it, "first" the
-dict from the places of the kinds that walks begin with to their tells. The
+dict from the places of the kinds that walks begin with to their tells, "passed"
+the dict from weights to what is known of sums a step of this weight later. The
 graph of a plan is the dict from the states that are reached to the lists of
 (state, weight) of how walks can go on from them.
 """
@@ -30,6 +31,7 @@ def _plan_of(rulebook, struck, fleet):
         "bars": [kind[2] for kind in rulebook[1]],
         "onward": onward,
         "first": {names.index(name): tells[name] for name in tells},
+        "passed": {weights[step]: [{} for _ in names] for step in weights},
     }
 
 
@@ -49,9 +51,14 @@ def _entered(plan, sums, place):
 
 def _passed(plan, sums, weight):
     """The sums a step of some weight later."""
-    return tuple([
-        tuple([min(one + weight, bar + 1) for one in kept]) for kept, bar in zip(sums, plan["bars"])
-    ])
+    known = plan["passed"][weight]
+    later = [known[place].get(kept) for place, kept in enumerate(sums)]
+    if None not in later:
+        return tuple(later)
+    # The same sums of a kind come again and again, beside others of the other kinds.
+    for place, kept in enumerate(sums):
+        known[place][kept] = tuple([min(one + weight, plan["bars"][place] + 1) for one in kept])
+    return tuple([known[place][kept] for place, kept in enumerate(sums)])
 
 
 def _beginnings(plan):

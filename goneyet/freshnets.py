@@ -17,7 +17,7 @@ def _numbered(paper):
     return keepers
 
 
-def _fresh_grounds(rulebook, struck):
+def clean_grounds(rulebook, struck):
     """The dict from the clean kinds to the grounds by which answers that are not OLD are made here.
 
     Each needs kinds alone whose trees have fewer levels, so that they end in rows.
@@ -35,9 +35,8 @@ def _others_of(rulebook, paper):
     return others
 
 
-def _fresh_needed(rulebook, struck, paper):
+def _fresh_needed(rulebook, grounds, paper):
     """The dict from the (kind, day) of all answers that are not OLD to the grounds by which they are made."""
-    grounds = _fresh_grounds(rulebook, struck)
     indexes = {}
     left = _others_of(rulebook, paper)
     while left:
@@ -66,10 +65,10 @@ def _giver(need, day, part, numbered, fresh):
     return fresh[(need[1], day - need[2])] if part == "other" else numbered[part]
 
 
-def _makings_of(rulebook, struck, paper):
+def _makings_of(rulebook, grounds, paper):
     """The dict from days to the lists of the deeds that make the answers of a paper."""
     numbered = _numbered(paper)
-    indexes = _fresh_needed(rulebook, struck, paper)
+    indexes = _fresh_needed(rulebook, grounds, paper)
     fresh = _fresh_keepers(paper, indexes)
     makings = {}
     for name, day in fresh:
@@ -84,11 +83,14 @@ def _makings_of(rulebook, struck, paper):
     return makings
 
 
-def net_of(rulebook, struck, paper, until):
-    """A SCRIPT up to the day until in which each step of a paper is made by a keeper of its own."""
-    makings = _makings_of(rulebook, struck, paper)
+def script_of(rulebook, struck, changed, grounds, paper, until):
+    """A SCRIPT up to the day until in which each step of a paper is made by a keeper of its own.
+
+    Answers that are not OLD are made by these grounds, a dict from kinds to indexes.
+    """
+    makings = _makings_of(rulebook, grounds, paper)
     begin = min(list(makings))
-    net = Net(rulebook, struck, False, begin)
+    net = Net(rulebook, struck, changed, begin)
     for day in range(begin, until + 1):
         if day > begin:
             net.dawn()
@@ -96,6 +98,11 @@ def net_of(rulebook, struck, paper, until):
         for _, keeper, index, givers in makings.get(day, []):
             net.make(keeper, index, givers)
     return (begin, tuple(net.deeds_done()))
+
+
+def net_of(rulebook, struck, paper, until):
+    """A SCRIPT up to the day until in which each step of a paper is made by a keeper of its own, rows being struck."""
+    return script_of(rulebook, struck, False, clean_grounds(rulebook, struck), paper, until)
 
 
 def maker_of(rulebook, struck, paper):

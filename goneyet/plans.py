@@ -95,20 +95,16 @@ def _part(rulebook, numbers, step, index, givers, place):
     return numbers[givers[place][0]] if place in givers else "other"
 
 
-def planned_paper(rulebook, struck, tolds, wanted):
-    """The paper with a step for each (kind, day) of a dict, told no sooner than the dict says.
-
-    The dict wants no more than tolds tell. Steps stand by days, then by kinds.
-    """
-    choices = choices_of(rulebook, struck)
-    levels = _levels_of(choices)
+def planned_by(rulebook, choices_on, tolds, wanted):
+    """The steps of planned_paper, by a function that tells the choices on a day."""
+    levels = _levels_of(choices_on(-1))
     left = {step: wanted[step] for step in wanted}
     made = {}
     while left:
         # Givers are always made on earlier days, so that all wishes for this step are known.
         day, name = max([(day, name) for name, day in left])
         told = left.pop((name, day))
-        index, givers = _best_way(rulebook, tolds, levels, left, choices[name], day, told)
+        index, givers = _best_way(rulebook, tolds, levels, left, choices_on(day)[name], day, told)
         made[(name, day)] = (told, index, givers)
         for place in givers:
             step, least = givers[place]
@@ -122,3 +118,16 @@ def planned_paper(rulebook, struck, tolds, wanted):
         parts = tuple([_part(rulebook, numbers, step, index, givers, place) for place in range(many)])
         paper.append((step[0], step[1], told_shown(told), index, parts))
     return paper
+
+
+def planned_paper(rulebook, struck, tolds, wanted):
+    """The paper with a step for each (kind, day) of a dict, told no sooner than the dict says.
+
+    The dict wants no more than tolds tell. Steps stand by days, then by kinds.
+    """
+    choices = choices_of(rulebook, struck)
+
+    def choices_on(_):
+        return choices
+
+    return planned_by(rulebook, choices_on, tolds, wanted)

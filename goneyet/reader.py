@@ -1,16 +1,15 @@
 """Rulebooks read from texts."""
 
+from goneyet.dials import GREATEST_NUMBERS, LEAST_NUMBERS, OWN_WORDS
 from goneyet.errors import NoText, Wrong
 from goneyet.forms import is_name
 from goneyet.rulebooks import KIND_WORDS, MOST_GROUNDS, ROW_WORDS, in_order, made_kind
 from goneyet.words import number_shown, words_of
 
 MOST_NEEDS = 3
-LEAST_NUMBERS = {"after": 1, "tell": 0, "most": 0, "keep": 1, "bar": 0}
-GREATEST_NUMBERS = {"after": 9, "tell": 4, "most": 9, "keep": 8, "bar": 12}
 
 
-def _numbers_from(words, wanted):
+def numbers_from(words, wanted):
     """The numbers behind the wanted words, a list; None if the words are no such line."""
     if len(words) != 2 * len(wanted):
         return None
@@ -26,13 +25,13 @@ def _numbers_from(words, wanted):
 def _need_from(words):
     """The need that some words show; None if they show none."""
     wanted = ROW_WORDS if words[0] == "row" else KIND_WORDS
-    numbers = _numbers_from(words[2:], wanted)
+    numbers = numbers_from(words[2:], wanted)
     if numbers is None or not is_name(words[1]):
         return None
     return (words[0], words[1]) + tuple(numbers)
 
 
-def _needs_from(words):
+def needs_from(words):
     """The list of the needs that the words behind `from` show; None if they show no such list."""
     sizes = {"row": 2 + 2 * len(ROW_WORDS), "kind": 2 + 2 * len(KIND_WORDS)}
     needs = []
@@ -75,7 +74,7 @@ class Draft:
 
     def take_kind(self, words):
         """Take the line of a kind."""
-        numbers = _numbers_from(words[2:], ("keep", "bar"))
+        numbers = numbers_from(words[2:], OWN_WORDS)
         if numbers is None or not is_name(words[1]):
             return False
         if words[1] in [name for name, _, _, _ in self.kinds]:
@@ -85,7 +84,7 @@ class Draft:
 
     def take_ground(self, words):
         """Take the line of a ground of the last kind."""
-        needs = _needs_from(words[1:])
+        needs = needs_from(words[1:])
         if needs is None or not self.kinds or len(needs) > MOST_NEEDS:
             return False
         if not all([need[1] in (self.rows if need[0] == "row" else self.named) for need in needs]):

@@ -1,13 +1,14 @@
 """Told days as numbers, and the greatest ones that OLD answers can have.
 
 NONE stands for no OLD answer at all, ENDLESS for told days as late as one
-likes, NEVER for not being told; as numbers they are in the order of told days.
+likes, NEVER for not being told; as numbers they are in the order of told days,
+with NONE below all days.
 """
 
 from goneyet.choices import needs_counted
 from goneyet.forms import FOR_GOOD
 
-NONE = -1
+NONE = -1000000
 ENDLESS = 1000000
 NEVER = 2000000
 MOST_KEEP = 8
@@ -79,19 +80,17 @@ def worth_of_row(need, day):
     return NEVER if most < FOR_GOOD and -day > most else tell
 
 
-def _worth_of_kind(need, keep, column, day):
-    """The told number that a need on a kind with this keep gives on the day behind a column."""
-    _, _, after, tell, most = need
-    told = max(column[len(column) - keep + 1:len(column) - after + 1])
-    # On days below -1 NONE is above the day, but no giver.
-    if told <= max(day, NONE):
+def worth_of_kind(need, told, day):
+    """The told number that a need on a kind gives on a day, by the greatest one of those that can be taken from."""
+    _, _, _, tell, most = need
+    if told <= day:
         return NONE
     if most < FOR_GOOD and told - day > most:
         return NEVER
     return _told_later(told, tell)
 
 
-def _told_on(lists, keeps, columns, day):
+def told_on(lists, keeps, columns, day):
     """The greatest told number on the day behind the columns, by lists of needs of which one has to be met wholly."""
     best = NONE
     for needs in lists:
@@ -100,7 +99,9 @@ def _told_on(lists, keeps, columns, day):
             if need[0] == "row":
                 worth = worth_of_row(need, day)
             else:
-                worth = _worth_of_kind(need, keeps[need[1]], columns[need[1]], day)
+                column = columns[need[1]]
+                made = column[len(column) - keeps[need[1]] + 1:len(column) - need[2] + 1]
+                worth = worth_of_kind(need, max(made), day)
             least = min(least, worth)
             if least <= best:
                 break
@@ -126,7 +127,7 @@ def tolds_by_days(rulebook, choices, before, first, last):
     for day in range(first, last + 1):
         if day > 0 and all([_is_settled(columns[name]) for name in columns]):
             break
-        todays = {name: _told_on(lists[name], keeps, columns, day) for name in lists}
+        todays = {name: told_on(lists[name], keeps, columns, day) for name in lists}
         for name in todays:
             columns[name].append(todays[name])
     for name in lists:

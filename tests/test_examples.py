@@ -103,9 +103,9 @@ STAGE_6 = r'''
 [True, False]
 '''
 
-# Of stage 7 those of goneyet.windows and goneyet.fleets.
 STAGE_7 = r'''
 >>> from goneyet.fleets import fleet_end, heights_of
+>>> from goneyet.leastfleets import least_bars, least_fleets
 >>> from goneyet.windows import is_well_timed, keeps_windows, news_of, steps_of
 >>> grounds = ((("kind", "e", 1, 1, 9),), (("row", "a", 0, 9),))
 >>> book = (("a",), (("e", 2, 1, grounds),))
@@ -117,6 +117,71 @@ STAGE_7 = r'''
 [None, 0, 1, 'ever']
 >>> heights_of(book, ("a",), (2,))
 [(('e', ((0,),)), 1), (('e', ((1, 0),)), 0)]
+>>> [least_fleets(book, ("a",), 4), least_bars(book, ("a",), (3,), 8)]
+[[(3,)], [(2,)]]
+'''
+
+STAGE_8 = r'''
+>>> from goneyet.forgetting import gone_by, greatest_forgetting, least_harmful, with_forgetful
+>>> from goneyet.lists import greatest_numbers, least_lists
+>>> p = ("p", 2, 0, ((("row", "a", 0, 9),),))
+>>> q = ("q", 3, 0, ((("kind", "p", 1, 0, 9),),))
+>>> book = (("a",), (p, q))
+>>> [gone_by(book, ("a",), "q", day) for day in (0, None)]
+[True, True]
+>>> with_forgetful(book, ("p",))[1][1]
+('q', 3, 0, ((('kind', 'p', 1, 0, 0),),))
+>>> [greatest_forgetting(book, ("a",), "q", 0, ("p", "q")), least_harmful(book, ("a",), "q", 0, ("p", "q"))]
+[[('q',)], [('p',)]]
+>>> [greatest_forgetting(book, ("a",), "q", 2, ("p", "q")), greatest_forgetting(book, ("a",), "q", None, ("p",))]
+[[('p', 'q')], [('p',)]]
+>>> [least_lists(book, ("a",), "q", 0, (("q", 0, 0),)), least_lists(book, ("a",), "q", 0, (("p", 0, 0), ("q", 0, 0)))]
+[[(2,)], [(3, 2)]]
+>>> greatest_numbers(with_forgetful(book, ("p",)), ("a",), "q", 1, (("q", "keep"), ("p", "keep")), (3, 3))
+[(2, 3), (3, 1)]
+'''
+
+STAGE_9 = r'''
+>>> from goneyet.forward import forward_table
+>>> from goneyet.fromlog import latest_all, now_of
+>>> from goneyet.lastleft import last_left
+>>> rulebook = (("a",), (("p", 3, 1, ((("kind", "p", 1, 1, 9),), (("row", "a", 0, 9),))),))
+>>> log = (-2, (("make", ("p", 0), 1, (None,)), ("dawn",), ("make", ("p", 1), 0, (("p", 0),)), ("dawn",), ("tell", ("p", 0), ("a",), 0)))
+>>> [now_of(log), latest_all(rulebook, ("a",), log), forward_table(rulebook, ("a",), log, 2)]
+[1, {('p', 1): 1}, {('p', -1): 1}]
+>>> [last_left(rulebook, ("a",), log), last_left(rulebook, ("a",), (-1, (("make", ("p", 0), 1, (None,)),)))]
+[None, None]
+'''
+
+STAGE_10 = r'''
+>>> from goneyet.changed import fresh_from, last_old, old_table
+>>> from goneyet.mixing import gaps_in, mixed_days_in, old_days_in, struck_days_in
+>>> p = ("p", 8, 0, ((("row", "a", 4, 9),),))
+>>> q = ("q", 6, 0, ((("row", "a", 2, 9),),))
+>>> r = ("r", 1, 0, ((("kind", "q", 4, 0, 9), ("kind", "s", 1, 0, 9)),))
+>>> s = ("s", 8, 0, ((("kind", "p", 1, 4, 9),),))
+>>> rulebook = (("a",), (p, q, r, s))
+>>> [fresh_from(rulebook, ("a",), name) for name in ("p", "q", "r", "s")]
+[0, 0, 4, 1]
+>>> [old_table(rulebook, ("a",), 5)["r"].get(day, "none") for day in (-1, 0, 1, 2, 3, 4, 5)]
+[2, 2, 2, 'none', 'none', 8, 8]
+>>> [old_days_in(rulebook, ("a",), "r", 9), gaps_in(rulebook, ("a",), "r", 9), mixed_days_in(rulebook, ("a",), "r", 9)]
+[[0, 1, 4, 5, 6, 7], [2, 3], [4, 5, 6, 7]]
+>>> [struck_days_in(rulebook, ("a",), "r", 9), last_old(rulebook, ("a",), "r"), last_old(rulebook, ("a",), "s")]
+[[0, 1], 7, 7]
+'''
+
+STAGE_11 = r'''
+>>> from goneyet.book import Book
+>>> from goneyet.desk import Desk
+>>> desk = Desk("rows a\nkind p keep 5 bar 0\nfrom row a tell 1 most 9")
+>>> [desk.execute(line) for line in ("class p", "last p", "by p 1", "fades p", "from p kind p after 1 tell 1 most 9")]
+[['gone'], ['0'], ['done'], ['done'], ['refused NotHeld']]
+>>> [desk.execute(line) for line in ("number p 0 0 tell 2", "number p 0 0 tell 0", "last p", "stands p 0", "wishes")]
+[['refused NotHeld'], ['done'], ['-1'], ['no'], ['by p 1', 'fades p']]
+>>> book = Book((("a",), (("p", 5, 0, ((("row", "a", 1, 9),),)),)), ("a",))
+>>> [book.do(("wish", ("ends", "p"))), book.wishes_now(), book == book.copied(), book.undo(), book.wishes_now()]
+[None, [('ends', 'p')], True, ('wish', ('ends', 'p')), []]
 '''
 
 
@@ -145,4 +210,16 @@ class ExamplesTest(unittest.TestCase):
         self.run_examples(STAGE_6, 10)
 
     def test_stage_7(self):
-        self.run_examples(STAGE_7, 8)
+        self.run_examples(STAGE_7, 10)
+
+    def test_stage_8(self):
+        self.run_examples(STAGE_8, 11)
+
+    def test_stage_9(self):
+        self.run_examples(STAGE_9, 7)
+
+    def test_stage_10(self):
+        self.run_examples(STAGE_10, 11)
+
+    def test_stage_11(self):
+        self.run_examples(STAGE_11, 7)
