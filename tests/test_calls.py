@@ -5,12 +5,15 @@ import unittest
 
 from books import CLEAN, EVER, FORGETFUL, LONGER, NEVER_TOLD
 from goneyet import (
-    classes, falling, fleets, forms, freshnets, leads, leasttable, longer, lots, origins, papers, reader, rowlots, rulebooks, scripts, sorts,
-    tablejudge, texts, toldends, turning, windows,
+    changed, classes, cleaning, falling, fleetnets, fleets, forgetting, forms, forward, freshnets, fromlog, lastleft, leads, leastfleets, leasttable,
+    lists, longer, lots, mixing, origins, papers, reader, rowlots, rulebooks, scripts, sorts, tablejudge, texts, toldends, turning, windows,
 )
+from goneyet.book import Book
+from goneyet.desk import Desk
 from goneyet.errors import GoneError
 from goneyet.net import Net
 from samples import ODD, PAIR, RING, WORDY
+from test_language import INTERFACE
 
 SCRIPT = (-2, (("make", ("p", 0), 1, (None,)), ("dawn",), ("make", ("p", 1), 0, (("p", 0),)), ("dawn",)))
 THREE = (PAIR, RING, WORDY)
@@ -53,8 +56,8 @@ def calls():
     for method in METHODS:
         told.append((by_method(method), (RING, ("a",), SCRIPT)))
     for book in (EVER, LONGER, NEVER_TOLD, FORGETFUL, CLEAN, PAIR):
-        told += judging_calls(book) + walking_calls(book)
-    return told
+        told += judging_calls(book) + walking_calls(book) + forgetting_calls(book) + forward_calls(book) + changed_calls(book)
+    return told + book_calls()
 
 
 # A rulebook that is well timed.
@@ -111,6 +114,95 @@ def walking_calls(book):
     return told
 
 
+def forgetting_calls(book):
+    """Calls of the functions of fleets that are least, of keepers that forget, of lists and numbers."""
+    told, struck = [], ("a",)
+    names = rulebooks.kind_names(book)
+    for rulebook in (book, CHAIN):
+        told += [(leastfleets.least_fleets, (rulebook, struck, most)) for most in (0, 3, 300)]
+        told += [(leastfleets.least_bars, (rulebook, struck, (2,) * len(rulebook[1]), most)) for most in (0, 2, 300)]
+        told.append((fleetnets.fleet_script, (rulebook, struck, (2,) * len(rulebook[1]), tuple(rulebooks.kind_names(rulebook)[:1]))))
+    for given in ((), tuple(names), names, names[:1] * 2):
+        told.append((forgetting.with_forgetful, (book, given)))
+    places = tuple(rulebooks.places_of(book)[:2])
+    for name in names:
+        for day in (0, 3, None):
+            told.append((forgetting.gone_by, (book, struck, name, day)))
+            told += [(function, (book, struck, name, day, tuple(names))) for function in (forgetting.greatest_forgetting, forgetting.least_harmful)]
+            told.append((lists.least_lists, (book, struck, name, day, places)))
+            told.append((lists.greatest_numbers, (book, struck, name, day, ((name, "keep"), (places[0], "tell")), (3, 2))))
+        told += [(forgetting.harm_script, (book, struck, name, 0, given)) for given in ((), names)]
+        for setting in lists.least_lists(book, struck, name, 0, places):
+            told.append((lists.paper_of_less, (book, struck, name, 0, places, setting)))
+    return told
+
+
+def forward_calls(book):
+    """Calls of the functions of logs."""
+    told, struck = [], ("a",)
+    kind = rulebooks.kind_names(book)[-1]
+    row = [(name, index) for name, _, _, grounds in book[1] for index, ground in enumerate(grounds) if all(need[0] == "row" for need in ground)][0]
+    make = ("make", (row[0], 0), row[1], (None,) * len(rulebooks.kind_of(book, row[0])[3][row[1]]))
+    for log in ((-3, ()), (-2, (make,)), (-3, (make, ("dawn",), make[:1] + ((row[0], 1),) + make[2:]))):
+        told += [(fromlog.is_log, (book, struck, thing)) for thing in (log, list(log), (log[0], list(log[1])), None)]
+        told += [(fromlog.now_of, (log,)), (fromlog.latest_all, (book, struck, log))]
+        told += [(fromlog.latest_told, (book, struck, log, (row[0], number))) for number in (0, 1, 9)]
+        told += [(function, (book, struck, log, days)) for function in (forward.clean_days, forward.forward_table) for days in (1, 9)]
+        told += [(forward.forward_script, (book, struck, log, kind, day)) for day in range(fromlog.now_of(log), 6)]
+        told += [(function, (book, struck, log)) for function in (lastleft.last_left, lastleft.ever_days)]
+        for lot in ((), ((row[0], 0),), ((row[0], 0), (row[0], 1))):
+            told.append((cleaning.left_with, (book, struck, log, lot)))
+            told += [(cleaning.least_cleaning, (book, struck, log, lot, day)) for day in (None, 0)]
+    return told
+
+
+def changed_calls(book):
+    """Calls of the functions of changed rows."""
+    told, struck = [(changed.old_table, (book, ("a",), days)) for days in (0, 20)], ("a",)
+    for name in rulebooks.kind_names(book):
+        told += [(function, (book, struck, name)) for function in (changed.fresh_from, changed.last_old)]
+        told += [(function, (book, struck, name, 9)) for function in (mixing.old_days_in, mixing.gaps_in, mixing.mixed_days_in, mixing.struck_days_in)]
+        told += [(mixing.changed_script, (book, struck, name, day)) for day in (0, 5)]
+    return told
+
+
+def book_calls():
+    """Calls that make Books and Desks, lead and ask them."""
+    told = [(Book, (PAIR, struck)) for struck in (("a",), ("z",), None)] + [(Desk, (text,)) for text in ("", "rows a\nkind p keep 2 bar 0", None)]
+    for deeds in (
+        (), (("drop", "p"), ("wish", ("ends", "q")), ("struck", ("a", "b"))), (("wish", ("by", "p", 9)), ("number", ("p", "keep"), 4), ("free", 0)),
+    ):
+        for method in ("rulebook_now", "struck_now", "wishes_now", "deeds_done", "undo", "copied"):
+            told.append((by_deeds(method), (PAIR, deeds)))
+        for deed in (("drop", "zz"), ("wish", ("by", "q", 0)), ["drop", "p"], ("free", 0), None):
+            told.append((by_deeds("do"), (PAIR, deeds, deed)))
+    for lines in ((), ("by p 9", "drop q"), ("from p row a tell 0 most 3", "struck b")):
+        for line in ("text", "wishes", "class p", "last q", "stands p 1", "undo", "fades p", "drop zz", "none", "", None, ["text"]):
+            told.append((by_lines, (PAIR, lines, line)))
+        told.append((by_lines, (PAIR, lines)))
+    return told
+
+
+def by_deeds(method):
+    """A function that leads a Book by deeds and calls one of its methods."""
+
+    def led(rulebook, deeds, *more):
+        book = Book(rulebook, ("a",))
+        for deed in deeds:
+            book.do(deed)
+        return getattr(book, method)(*more)
+
+    return led
+
+
+def by_lines(rulebook, lines, *more):
+    """What a Desk led by lines answers to one more; its Book if there is none more."""
+    desk = Desk(texts.show_rulebook(rulebook))
+    for line in lines:
+        desk.execute(line)
+    return desk.execute(*more) if more else desk.book()
+
+
 METHODS = ("day_now", "is_morning", "answers_now", "lists_now", "news_now", "barred_now", "deeds_done", "tell_due", "undo", "copied", "dawn")
 
 
@@ -144,6 +236,11 @@ def spoil(value):
         value.append("spoiled")
     if isinstance(value, Net):
         value.dawn() if not value.news_now() else value.tell_due()
+    if isinstance(value, Book):
+        value.do(("wish", ("ends", "spoiled")))
+    if isinstance(value, Desk):
+        value.execute("ends spoiled")
+        value.book().do(("wish", ("fades", "spoiled")))
 
 
 def same(one, other):
@@ -154,8 +251,10 @@ def same(one, other):
         return len(one) == len(other) and all(same(a, b) for a, b in zip(one, other))
     if isinstance(one, dict):
         return list(one) == list(other) and all(same(one[key], other[key]) for key in one)
-    if isinstance(one, Net):
+    if isinstance(one, (Net, Book)):
         return one == other and one.deeds_done() == other.deeds_done()
+    if isinstance(one, Desk):
+        return same(one.book(), other.book())
     return one == other
 
 
@@ -193,7 +292,7 @@ class CallsTest(unittest.TestCase):
     def test_truths(self):
         for function, arguments in calls():
             name = getattr(function, "__name__", "")
-            if name.startswith("is_") or name in ("bars_makings", "keeps_windows", "are_heights"):
+            if name.startswith("is_") or name in ("bars_makings", "keeps_windows", "are_heights", "gone_by"):
                 told = outcome(function, arguments)
                 self.assertTrue(type(told[1]) is bool or told[0] == "NotTimed")
 
@@ -203,6 +302,7 @@ class CallsTest(unittest.TestCase):
         self.assertIsNone(net.dawn())
         self.assertIsNone(net.clean(("p", 1)))
         self.assertIsNone(net.tell(("p", 0), ("a",), 0))
+        self.assertIsNone(Book(PAIR, ("a",)).do(("drop", "q")))
 
     def test_keys_of_dicts_ascend(self):
         net = Net((("a",), (("p", 8, 9, ((("row", "a", 0, 9),),)), ("q", 8, 9, ((("row", "a", 0, 9),),)))), ("a",), False, -2)
@@ -225,6 +325,14 @@ class CallsTest(unittest.TestCase):
                 keys = [(key[0], key[1] is None, key[1]) if isinstance(key, tuple) and len(key) == 2 else key for key in found]
                 self.assertEqual(keys, sorted(keys))
         self.assertTrue({"told_ends", "rise_of", "circle_of", "all_classes", "class_paper", "choice_of", "first_tells"} <= seen)
+        self.assertTrue({"latest_all", "forward_table", "old_table"} <= seen)
+
+    def test_all_functions_of_the_interface_are_called(self):
+        called = {function.__name__ for function, _ in calls()}
+        for file in INTERFACE:
+            if file not in ("errors", "net", "book", "desk"):
+                self.assertLessEqual(set(INTERFACE[file]), called)
+        self.assertTrue({"Net", "Book", "Desk"} <= called)
 
 
 def dicts_in(value):

@@ -99,6 +99,12 @@ class LanguageTest(unittest.TestCase):
             self.assertRegex(name, r"^[a-z_]+\.py$")
         self.assertIn("__init__.py", FILES)
 
+    def test_the_readme_names_each_file(self):
+        with open(os.path.join(os.path.dirname(FOLDER), "README.md"), encoding="utf-8") as file:
+            text = file.read()
+        for name in FILES:
+            self.assertIn(f"`goneyet.{name[:-3]}`", text)
+
     def test_sizes_and_characters(self):
         for name, text, tree in trees():
             lines = text.split("\n")
