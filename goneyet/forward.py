@@ -111,7 +111,8 @@ def forward_script(rulebook, struck, log, kind, day):
     keepers = _keepers_there(struck, net)
     makings = sorted(ways)
     new = _keepers_new(log, makings)
-    keepers.update(new)
+    for making in new:
+        keepers[making] = new[making]
     while net.day_now() < day:
         net.dawn()
         net.tell_due()

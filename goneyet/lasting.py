@@ -71,16 +71,14 @@ def lasting_word(changes, columns, name):
     """The word "ever" or "longer" for a kind, by columns that end a keep behind the day settled; otherwise None."""
     enough = ENOUGH_OF_KIND * len(columns)
     leads = {}
-    endless = {}
     for other in columns:
-        found = [
-            lead_of(columns[other][-MOST_KEEP + k], changes.settled + 1 + k) for k in range(MOST_KEEP)
-        ]
-        leads[other] = max([lead if lead == NEVER else min(lead, enough) for lead in found])
-        endless[other] = max([lead if lead >= ENDLESS else 0 for lead in found])
-    if name in _kinds_for_ever(changes, leads):
+        last = columns[other][-MOST_KEEP:]
+        leads[other] = max([lead_of(told, changes.settled + 1 + k) for k, told in enumerate(last)])
+    # In one run there are leads as great as one likes, but no ENDLESS ones.
+    great = {other: lead if lead == NEVER else min(lead, enough) for other, lead in leads.items()}
+    if name in _kinds_for_ever(changes, great):
         return "ever"
-    return "longer" if name in _kinds_for_ever(changes, endless) else None
+    return "longer" if name in _kinds_for_ever(changes, leads) else None
 
 
 def least_leads_to(changes, name):

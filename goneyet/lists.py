@@ -1,13 +1,11 @@
 """The least lists with which OLD answers of a kind are gone by a day, and the greatest keeps and tells."""
 
+from goneyet.dials import LEAST_NUMBERS
 from goneyet.forgetting import gone_by
 from goneyet.forms import FOR_GOOD
 from goneyet.leastnumbers import least_numbers
 from goneyet.longer import standing_script
 from goneyet.rulebooks import with_numbers
-
-LEAST_KEEP = 1
-LEAST_TELL = 0
 
 
 def _mosts_at(places):
@@ -32,7 +30,7 @@ def _lessened(tops, numbers):
 
 def greatest_numbers(rulebook, struck, kind, day, dials, tops):
     """The ascending list of the greatest settings up to tops with which OLD answers are gone by a day."""
-    least = [LEAST_KEEP if word == "keep" else LEAST_TELL for _, word in dials]
+    least = [LEAST_NUMBERS[word] for _, word in dials]
 
     def is_gone(numbers):
         return gone_by(with_numbers(rulebook, dials, _lessened(tops, numbers)), struck, kind, day)

@@ -179,6 +179,11 @@ class FleetNetsTest(unittest.TestCase):
         self.assertEqual(script[0], -2)
         self.assertEqual(news_of(rulebook, A, ("e", "e")), 3)
 
+    def test_a_row_of_the_name_of_a_kind(self):
+        rulebook = (("e",), (("e", 5, 1, ((("kind", "e", 1, 3, 9),), (("row", "e", 3, 9),))), ("f", 4, 0, ((("kind", "e", 2, 3, 9),), (("row", "e", 3, 9),)))))
+        for walk in (("e",), ("f",), ("e", "e", "f"), ("e", "e", "e", "e")):
+            self.check(rulebook, ("e",), (3, 2), walk)
+
     def test_not_timed_first(self):
         for rulebook in (LOST, book(("p", 2, (need(tell=2),), (("row", "a", 0, 9),)))):
             for fleet, walk in (((3,), ("p",)), ((0,), ("p",)), ((), ()), (None, None)):

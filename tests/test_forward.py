@@ -224,6 +224,17 @@ class ScriptTest(ForwardCase):
         self.assertTrue(self.check_script(RING, A, (-300, ()), "p", -241))
         self.assertTrue(self.check_script(RING, A, (-30, ()), "p", 29))
 
+    def test_grounds_of_which_some_needs_alone_are_clean(self):
+        # d is made by its last ground if it is not to be OLD: x is always OLD.
+        rulebook = (("a", "b"), (
+            ("c", 3, 0, ((("row", "b", 0, 9),),)),
+            ("d", 3, 0, ((("kind", "c", 1, 0, 9), ("kind", "x", 1, 0, 9)), (("kind", "c", 2, 0, 9),))),
+            ("q", 3, 0, ((("kind", "d", 1, 0, 9), ("kind", "x", 1, 2, 9)),)),
+            ("x", 8, 0, ((("kind", "x", 1, 1, 9),), (("row", "a", 1, 9),))),
+        ))
+        log = (-2, (("make", ("x", 0), 1, (None,)), DAWN))
+        self.assertEqual([self.check_script(rulebook, A, log, name, day) for name in ("d", "q", "x") for day in range(0, 6)], [False] + [True] * 5 + [False] * 3 + [True] * 3 + [True] * 6)
+
     def test_keepers_of_great_numbers(self):
         many = 10 ** 39
         log = (-2, (("make", ("p", many), 1, (None,)), ("make", ("p", 3), 1, (None,))))

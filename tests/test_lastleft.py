@@ -95,8 +95,11 @@ class LastLeftTest(LeftCase):
 
     def test_now_far_below_0(self):
         for rulebook in (RING, LONGER, CLEAN, ENDED):
-            for begin in (-199, -190, -150, -40):
+            for begin in (-200, -199, -198, -190, -40):
                 self.check(rulebook, A, (begin, ()))
+        # The windows of 0 and 1, or that of 0 alone.
+        self.assertEqual((self.told(EVER, A, (-199, ())), ever_days(EVER, A, (-199, ()))), ("ever", (0, 1)))
+        self.assertEqual((self.told(EVER, A, (-200, ())), ever_days(EVER, A, (-200, ()))), ("many", None))
         # Up to NOW + 199 there is no window yet.
         for begin in (-201, -400, -9000):
             self.assertEqual(self.told(RING, A, (begin, ())), "many")

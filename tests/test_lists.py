@@ -203,6 +203,14 @@ class LessTest(unittest.TestCase):
                     seen[word] += 1
         self.assertGreater(min(seen[True], seen[False]), 5)
 
+    def test_three_places(self):
+        three = book(("p", 8, (("row", "a", 0, 8), ("row", "a", 0, 9))), ("q", 8, (need("p", 1, 1),)))
+        places = (("p", 0, 0), ("q", 0, 0), ("p", 0, 1))
+        settings = least_lists(three, A, "q", 5, places)
+        self.assertTrue(any(setting[0] > 0 and setting[1] != setting[2] for setting in settings))
+        self.assertEqual(self.check(three, A, "q", 5, places), {True, False})
+        self.assertEqual(self.check(three, A, "q", 5, (places[1], places[0], places[2])), {True, False})
+
     def test_too_many(self):
         # Where q is never told by a short list it stands long, by steps that begin long ago.
         slow = book(("p", 8, (need(after=7),), (("row", "a", 0, 9),)), ("q", 1, (need("p", 1, 0),), (("row", "a", 0, 5),)))
