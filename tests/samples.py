@@ -2,6 +2,8 @@
 
 import random
 
+from goneyet.book import Book
+from goneyet.desk import Desk
 from goneyet.errors import NoKind
 from goneyet.net import Net
 from goneyet.rulebooks import led_rulebook
@@ -52,6 +54,7 @@ ODD = [
     (), [], {}, ("a",), ["a"], {"a": 1}, (None,), (0,), (True,), ("p", 0), ("p", True), ["p", 0], ("p", -1), ("p", 0, 0),
     ROW, list(ROW), COPY, (ROW,), [ROW], (COPY, ROW), (ROW, COPY), ((ROW,),), RING, list(RING), (RING, RING),
     deep_value(19), (deep_value(10),) * 4, tuple(range(6000)), [None] * 6000, NoKind("p"), Net(RING, ("a",), False, 0),
+    Book(RING, ("a",)), Desk("rows a\nkind p keep 3 bar 1"),
 ]
 
 
