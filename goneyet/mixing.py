@@ -62,7 +62,12 @@ def changed_script(rulebook, struck, name, day):
         first = 2 * first
         columns = changes.columns_from(nothing, first, day)
     made = _makings_for(changes, columns, first, name, day)[0]
-    paper = planned_by(rulebook, changes.choices_on, _tolds_by_days(columns, first), {(name, made): day + 1})
+
+    # A function may be handed on, a method of an object is called where it stands.
+    def choices_on(that_day):
+        return changes.choices_on(that_day)
+
+    paper = planned_by(rulebook, choices_on, _tolds_by_days(columns, first), {(name, made): day + 1})
     grounds = clean_grounds(rulebook, struck)
     grounds.update(changes.fresh_grounds())
     return script_of(rulebook, struck, True, grounds, paper, day)

@@ -65,6 +65,7 @@ ljust lower lstrip partition pop remove replace reverse rfind rjust rpartition r
 upper values zfill bit_length""".split())
 # Some tests let Python put `_` among its builtins.
 NAMES = [name for name in dir(builtins) if name != "_"]
+BUILTIN_ATTRIBUTES = {name for one in (0, "", b"", [], (), {}, set()) for name in dir(one)}
 CHANGING = set("append clear extend insert pop remove reverse setdefault update".split())
 BARRED_WORDS = set("""type typing typing_extensions enum Enum IntEnum StrEnum Flag IntFlag Generic Protocol ABC ABCMeta namedtuple NamedTuple
 TypedDict TYPE_CHECKING abstractmethod register mro elements open input law version_info with_traceback add_note""".split())
@@ -79,6 +80,58 @@ def trees():
 
 def functions(tree):
     return [node for node in ast.walk(tree) if isinstance(node, ast.FunctionDef)]
+
+
+def methods_of(many):
+    """The names of the methods that the classes of some trees define."""
+    made = [node for tree in many for node in ast.walk(tree) if isinstance(node, ast.ClassDef)]
+    return {node.name for one in made for node in one.body if isinstance(node, ast.FunctionDef)}
+
+
+def fields_of(many):
+    """The names of the attributes that some trees assign."""
+    return {node.attr for tree in many for node in ast.walk(tree) if isinstance(node, ast.Attribute) and isinstance(node.ctx, ast.Store)}
+
+
+def own_keys(tree, methods):
+    """What stands as key= of sorted, min or max and is an own method by its name alone: there a method may stand uncalled."""
+    calls = [node for node in ast.walk(tree) if isinstance(node, ast.Call) and getattr(node.func, "id", "") in ("sorted", "min", "max")]
+    keys = [word.value for call in calls for word in call.keywords if word.arg == "key"]
+    return [key for key in keys if isinstance(key, ast.Attribute) and key.attr in methods - BUILTIN_ATTRIBUTES]
+
+
+def in_class_scope(tree):
+    """What is computed in the bodies of classes themselves, not in their methods."""
+    for made in [node for node in ast.walk(tree) if isinstance(node, ast.ClassDef)]:
+        for node in made.body:
+            parts = [node]
+            if isinstance(node, ast.FunctionDef):
+                parts = node.args.defaults + [default for default in node.args.kw_defaults if default is not None] + node.decorator_list
+            for part in parts:
+                yield from ast.walk(part)
+
+
+def uncalled_methods(tree, methods, fields):
+    """The ascending list of the (row, code) at which a method of an object is named without being called.
+
+    What is read off an object and not called has to be a field that some class
+    assigns. A field that is called as a method of a builtin value is (`index`)
+    is read off `self` and off caught errors alone, where no other value stands.
+    """
+    called = [node.func for node in ast.walk(tree) if isinstance(node, ast.Call)] + own_keys(tree, methods)
+    objects = {"self"} | {node.name for node in ast.walk(tree) if isinstance(node, ast.ExceptHandler)}
+    found = []
+    for node in ast.walk(tree):
+        if isinstance(node, ast.Attribute) and isinstance(node.ctx, ast.Load) and node not in called:
+            is_field = node.attr in fields - methods
+            if node.attr in BUILTIN_ATTRIBUTES:
+                is_field = is_field and isinstance(node.value, ast.Name) and node.value.id in objects
+            if not is_field:
+                found.append((node.lineno, ast.unparse(node)))
+    for node in in_class_scope(tree):
+        if isinstance(node, ast.Name) and isinstance(node.ctx, ast.Load) and node.id in methods:
+            found.append((node.lineno, node.id))
+    return sorted(found)
 
 
 def bound_names(function):
@@ -263,3 +316,94 @@ class LanguageTest(unittest.TestCase):
                 self.assertIn(node.name, ("__init__", "__eq__"), where)
             if node.name == "__init__":
                 self.assertFalse(any(isinstance(part, ast.Return) for part in ast.walk(node)), where)
+
+
+class MethodsTest(unittest.TestCase):
+    """L25: a method is called where it stands, never handed on."""
+
+    # A class and a caught error, so that each way to name a method has something to name.
+    FRAME = """
+class Bad(ValueError):
+    def __init__(self, index):
+        self.index = index
+
+class Box:
+    def __init__(self, rows):
+        self.rows = rows
+
+    def told(self, day):
+        return self.rows[day]
+
+    def all_told(self):
+        return [self.told(0)]
+"""
+
+    def found_in(self, rows, frame=FRAME):
+        """The code of what is found uncalled if these rows stand behind the frame."""
+        tree = ast.parse(frame + rows)
+        return [code for _, code in uncalled_methods(tree, methods_of([tree]), fields_of([tree]))]
+
+    def test_the_package_calls_each_method_where_it_stands(self):
+        package = {name: tree for name, _, tree in trees()}
+        methods, fields = methods_of(package.values()), fields_of(package.values())
+        self.assertLessEqual({"choices_on", "dawn", "copied", "execute"}, methods)
+        found = [(name, row, code) for name in package for row, code in uncalled_methods(package[name], methods, fields)]
+        self.assertEqual(found, [])
+
+    def test_methods_that_are_handed_on_are_found(self):
+        for rows in (
+            "def f(box):\n    return led_by(box.told, 3)\n",
+            "def f(box):\n    return led_by(3, lead=box.told)\n",
+            "def f(box):\n    return led_by(*box.told)\n",
+            "def f(box):\n    told = box.told\n    return told(3)\n",
+            "def f(box):\n    box.rows = box.told\n",
+            "def f(box):\n    return box.told\n",
+            "def f(box):\n    return [(1, box.told)]\n",
+            "def f(box):\n    return {1: box.told}\n",
+            "def f(box):\n    return (box.told if box.rows else len)(3)\n",
+            "def f(box):\n    if box.told:\n        return 1\n",
+            "def f(box):\n    return box.told(1) == box.told\n",
+            "def f(box):\n    return f'{box.told}'\n",
+            "def f(box):\n    def g():\n        return box.told\n    return g()\n",
+            "def f(box):\n    return lambda: box.told\n",
+            "def f(box, many):\n    return sorted(many, reverse=box.told)\n",
+            "def f(box, many):\n    return sorted(many, key=(box.told, 1))\n",
+            "def f(box, many):\n    return led_by(many, key=box.told)\n",
+        ):
+            self.assertEqual(self.found_in(rows), ["box.told"], rows)
+        self.assertEqual(self.found_in("def f(boxes):\n    return led_by(boxes[0].told)\n"), ["boxes[0].told"])
+        self.assertEqual(self.found_in("def f(rows):\n    return led_by(Box(rows).told)\n"), ["Box(rows).told"])
+        self.assertEqual(self.found_in("def f():\n    return Box.told\n"), ["Box.told"])
+        self.assertEqual(self.found_in("    def kept(self):\n        return led_by(self.told)\n"), ["self.told"])
+
+    def test_methods_that_are_kept_in_a_class_are_found(self):
+        self.assertEqual(self.found_in("    again = told\n"), ["told"])
+        self.assertEqual(self.found_in("    BOTH = (told, all_told)\n"), ["all_told", "told"])
+        self.assertEqual(self.found_in("    def led(self, lead=told):\n        return lead(self, 3)\n"), ["told"])
+        self.assertEqual(self.found_in("    def led(self, *, lead=told):\n        return lead(self, 3)\n"), ["told"])
+
+    def test_methods_of_builtin_values_are_found(self):
+        for word in ("append", "get", "index", "items", "join", "split", "upper", "__len__"):
+            self.assertEqual(self.found_in(f"def f(rows):\n    return led_by(rows.{word})\n"), [f"rows.{word}"])
+            self.assertEqual(self.found_in(f"def f(rows):\n    return sorted(rows, key=rows.{word})\n"), [f"rows.{word}"])
+        self.assertEqual(self.found_in("def f():\n    return led_by(' '.join)\n"), ["' '.join"])
+        self.assertEqual(self.found_in("    def led(self):\n        return led_by(self.rows.append)\n"), ["self.rows.append"])
+
+    def test_what_is_no_such_thing_is_not_found(self):
+        for rows in (
+            "",
+            "def f(box):\n    return box.told(3) + (box.told)(4)\n",
+            "def f(boxes):\n    return [box.told(at) for at, box in enumerate(boxes)]\n",
+            "def f(box):\n    return led_by(box.told(3), box.rows, box.rows.copy(), box.all_told())\n",
+            "def f(box):\n    def told(day):\n        return box.told(day)\n    return led_by(told)\n",
+            "def f(box):\n    told = box.rows\n    return told\n",
+            "def f(box, many):\n    return sorted(many, key=box.told) + [max(many, key=box.told), min(many, key=box.told)]\n",
+            "def f(box):\n    try:\n        box.told(3)\n    except Bad as bad:\n        return bad.index\n",
+            "class Other(Box):\n    def named(self, told):\n        return led_by(told)\n",
+        ):
+            self.assertEqual(self.found_in(rows), [], rows)
+
+    def test_a_name_that_is_a_field_elsewhere_is_a_method_all_the_same(self):
+        rows = "class Other:\n    def __init__(self, told):\n        self.told = told\n\ndef f(box):\n    return led_by(box.told)\n"
+        self.assertEqual(self.found_in(rows), ["box.told"])
+        self.assertEqual(self.found_in("def f(box):\n    return led_by(box.telling)\n"), ["box.telling"])
